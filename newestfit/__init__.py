@@ -1,0 +1,1 @@
+"""Newestfit: releases that fit together, the newest ones, or why none do."""

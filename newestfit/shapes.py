@@ -1,0 +1,27 @@
+"""What numbers, tuples and sets are, and how lists are made into tuples."""
+
+
+def is_number(thing):
+    return isinstance(thing, int) and not isinstance(thing, bool)
+
+
+def is_tuple_of(thing, many):
+    """Whether thing is a tuple of so many things."""
+    return isinstance(thing, tuple) and len(thing) == many
+
+
+def is_ascending(rows):
+    """Whether each of rows is above the one ahead of it."""
+    return all(rows[k - 1] < rows[k] for k in range(1, len(rows)))
+
+
+def in_tuples(value):
+    """The same value, with a tuple for each list in it, at any depth."""
+    if isinstance(value, (list, tuple)):
+        return tuple(map(in_tuples, value))
+    return value
+
+
+def as_set(rows):
+    """The set, an ascending tuple, of these rows."""
+    return tuple(sorted(set(rows)))

@@ -1,0 +1,103 @@
+"""[25]: each name in its file, with its parameters; the errors; which file draws from which."""
+
+import ast
+import importlib
+import inspect
+import pathlib
+import unittest
+
+PACKAGE = pathlib.Path(__file__).resolve().parent.parent / "newestfit"
+
+ERRORS = {
+    "NoName": (LookupError, ("name",)), "NoRelease": (LookupError, ("version",)),
+    "NoNeed": (LookupError, ("number",)), "NoWord": (LookupError, ("word",)),
+    "NothingDone": (LookupError, ()), "Unfit": (ValueError, ()), "NoPaper": (ValueError, ()),
+    "TooMany": (ValueError, ()), "BadText": (ValueError, ("place",)), "BadLine": (ValueError, ("number",)),
+}
+
+FUNCTIONS = {
+    "versions": """is_name(thing) is_version(thing) version_text(version) read_version(text) is_early(version)
+        released(version) compared(one,other) first_unlike(one,other) next_version(version) version_ahead(version)
+        steps_on(version,many) steps_between(one,other) next_release(version,place) newest_of(versions,early)
+        from_best(versions)""",
+    "ranges": """is_range(thing) range_of(pairs) in_range(span,version) just(version) from_on(version) below(version)
+        compatible(version) close_to(version) both_of(one,other) either_of(one,other) all_but(span)
+        taken_out(one,other) is_inside(one,other) are_apart(one,other) parting_version(one,other)
+        range_cuts(spans) range_grains(spans) by_rows(spans,rows) least_in(span) newest_in(span)
+        next_in(span,version) least_release_in(span) many_in(span) of_range(span,versions)
+        shortened(span,versions)""",
+    "rangetexts": """is_bound(thing) is_range_text(thing) bound_range(bound) row_range(row) bounds_in(text)
+        read_range(text) bounds_for(span) range_text(span) rewritten(text) tell_alike(one,other)
+        parted_at(one,other) rows_holding(text,version) idle_rows(text) fewest_rows(text)""",
+    "marks": """is_words(thing) is_mark(thing) is_mark_text(thing) holds(mark,words) names_of(mark) hangs_on(mark)
+        with_word(mark,name,there) plain_mark(mark) holds_always(mark) holds_never(mark) marks_alike(one,other)
+        follows(one,other) parting_words(one,other) words_for(mark) reason(mark,words) is_reason(mark,words,thing)
+        mark_text(mark) read_mark(text)""",
+    "registry": """is_need(thing) is_release(thing) is_registry(thing) is_wish(thing) names_in(registry)
+        versions_of(registry,name) parts_of(registry,name) release_at(registry,name,version)
+        publish(registry,release) pull(registry,name,version) put_back(registry,name,version)
+        take_out(registry,name,version) put_together(one,other) differing(one,other)
+        is_open(registry,early,item,version) open_versions(registry,early,item) speaking_of(registry,name)
+        registry_faults(registry) is_registry_fault(registry,thing)""",
+    "items": """is_item(thing) targets(need) counting(wish) needs_of(registry,item,version)
+        asked_by(registry,wish,item,version) name_order(registry,wish) order(registry,wish)
+        order_place(registry,wish,item) states(registry,wish,item) ranks(registry,wish,lock)
+        lock_ranked(registry,wish,places) lots(registry,wish) closing(registry,wish,item,version)
+        closes(registry,wish,item,version) reached(registry,wish)""",
+}
+
+# Files as they may draw from one another: each from those ahead of it alone. shapes and releases are private.
+DRAWING = ("errors", "shapes", "versions", "ranges", "rangetexts", "marks", "releases", "registry", "items")
+
+
+def defined_in(file_name, kind):
+    tree = ast.parse((PACKAGE / f"{file_name}.py").read_text())
+    return [node.name for node in tree.body if isinstance(node, kind)]
+
+
+class Interface(unittest.TestCase):
+    def test_functions_stand_in_their_files_with_their_parameters(self):
+        for file_name, told in FUNCTIONS.items():
+            module = importlib.import_module(f"newestfit.{file_name}")
+            there = defined_in(file_name, ast.FunctionDef)
+            for word in told.split():
+                name, _, parameters = word.rstrip(")").partition("(")
+                self.assertIn(name, there, file_name)
+                shown = inspect.signature(getattr(module, name)).parameters
+                self.assertEqual(",".join(shown), parameters, name)
+                for parameter in shown.values():
+                    self.assertEqual(parameter.kind, parameter.POSITIONAL_OR_KEYWORD, name)
+                    self.assertIs(parameter.default, parameter.empty, name)
+
+    def test_errors_are_direct_subclasses_and_keep_their_values(self):
+        module = importlib.import_module("newestfit.errors")
+        self.assertEqual(sorted(defined_in("errors", ast.ClassDef)), sorted(ERRORS))
+        for name, (base, values) in ERRORS.items():
+            error = getattr(module, name)
+            self.assertEqual(error.__bases__, (base,), name)
+            given = [f"value {value}" for value in values]
+            self.assertEqual(vars(error(*given)), dict(zip(values, given)), name)
+            self.assertEqual(vars(error(**dict(zip(values, given)))), dict(zip(values, given)), name)
+            with self.assertRaises(TypeError, msg=name):
+                error(*given, **{"more": 1})
+
+    def test_an_error_keeps_a_tuple_for_a_list(self):
+        error = importlib.import_module("newestfit.errors").NoRelease([1, 2, 3, 0])
+        self.assertEqual(error.version, (1, 2, 3, 0))
+        self.assertIs(type(error.version), tuple)
+
+    def test_files_draw_only_from_those_ahead(self):
+        for file_name in DRAWING:
+            tree = ast.parse((PACKAGE / f"{file_name}.py").read_text())
+            for node in ast.walk(tree):
+                if isinstance(node, ast.ImportFrom) and node.module.startswith("newestfit."):
+                    source = node.module.partition(".")[2]
+                    self.assertLess(DRAWING.index(source), DRAWING.index(file_name), (file_name, source))
+
+    def test_no_file_is_left_out_of_that_order(self):
+        there = {path.stem for path in PACKAGE.glob("*.py")} - {"__init__"}
+        self.assertEqual(there, set(DRAWING))
+
+
+if __name__ == "__main__":
+    unittest.main()
