@@ -170,6 +170,28 @@ class Ranges(Case):
         self.says((), by_rows, spans=(), rows=((0,),))
         self.says(EVERY, by_rows, spans=(a, b), rows=tuple(subsets(range(6))))
 
+    def test_whole_grains_put_together(self):
+        for spans in self.spans(3, 60):
+            grains = range_grains(spans)
+            rows = tuple(self.rng.sample(subsets(range(3)), self.rng.randint(1, 6)))
+            told = by_rows(spans, rows)
+            taken = [(low, high) for low, high, numbers in grains if numbers in rows]
+            for low, high in [own[:2] for own in grains]:
+                part = range_of(((low, high),))
+                self.assertIs(is_inside(part, told), (low, high) in taken)
+                self.assertIs(are_apart(part, told), (low, high) not in taken)
+            # Neighbours become one pair, in whatever order they come: then it is a RANGE, and the only one.
+            joined = []
+            for low, high in taken:
+                if joined and joined[-1][1] == low:
+                    joined[-1] = (joined[-1][0], high)
+                else:
+                    joined.append((low, high))
+            self.same(told, tuple(joined))
+            self.assertIs(is_range(told), True)
+            self.rng.shuffle(taken)
+            self.same(range_of(tuple(taken)), told)
+
     def test_least_newest_next(self):
         for span, in self.spans(1):
             versions = [own for own in around([span]) if plainly_holds(span, own)]

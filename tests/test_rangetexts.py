@@ -227,6 +227,22 @@ class Writing(Case):
             self.same(bounds_for(span), tuple(sorted(alike, key=lambda own: (len(own), own))))
             self.assertEqual(min(map(len, alike)), len(range_text(span)))
 
+    def test_no_text_with_a_bound_for_each_pair_is_shorter(self):
+        rng = random.Random(17)
+        for _ in range(25):
+            span = made_range(rng, 3, 1)
+            if len(span) < 2:
+                continue
+            ends = [end for pair in span for end in pair if end is not None]
+            ends.extend([own for own in map(version_ahead, ends) if own is not None])
+            shortest = {}
+            for bound in all_bounds(ends + [FIRST]):
+                held = read_range(bound)
+                shortest[held] = min(len(bound), shortest.get(held, 999))
+            least = sum([shortest[(pair,)] for pair in span]) + len(span) - 1
+            self.assertEqual(len(range_text(span)), least)
+            self.assertEqual(len(rewritten(range_text(span))), least)
+
     def test_bounds_for_says(self):
         for span, bounds in ((EVERY, ("*", ">=0.0.0-9")), (((FIRST, (0, 0, 0, -8)),),
                                                            ("<0.0.0-8", "=0.0.0-9", "<=0.0.0-9",

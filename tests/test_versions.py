@@ -99,6 +99,14 @@ class Order(Case):
             self.says(sign, compared, one=one, other=other)
             self.says(place, first_unlike, one=one, other=other)
 
+    def test_of_any_versions_some_one_is_the_least(self):
+        rng = random.Random(4)
+        for _ in range(100):
+            versions = [rng.choice(BOX) for _ in range(rng.randint(1, 12))]
+            least = from_best(tuple(versions))[-1]
+            self.assertIn(least, versions)
+            self.assertTrue(all(compared(least, own) <= 0 for own in versions))
+
     def test_early_and_released(self):
         for version in BOX:
             self.same(is_early(version), version[3] != 0)
