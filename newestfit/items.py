@@ -18,7 +18,8 @@ def targets(need):
     return tuple([(need[0], part) for part in ("",) + in_tuples(need[2])])
 
 
-def _targets_of(needs):
+def targets_of_all(needs):
+    """The list of the targets of all these NEEDS, which are made of tuples."""
     return [item for need in needs for item in targets(need)]
 
 
@@ -48,7 +49,11 @@ def _needs_told(registry, wish):
 
 
 def name_order(registry, wish):
-    registry, wish = in_tuples(registry), in_tuples(wish)
+    return _names_told(in_tuples(registry), in_tuples(wish))
+
+
+def _names_told(registry, wish):
+    """The NAMES of the ORDER; registry and wish are made of tuples."""
     # A dict keeps the NAMES as they come first, each once.
     wished = {need[0]: True for need in needs_that_count(wish[0], wish[1])}
     told = [need[0] for need in _needs_told(registry, wish)] + [release[0] for release in registry]
@@ -57,12 +62,16 @@ def name_order(registry, wish):
 
 
 def order(registry, wish):
-    registry, wish = in_tuples(registry), in_tuples(wish)
+    return items_told(in_tuples(registry), in_tuples(wish))
+
+
+def items_told(registry, wish):
+    """The ORDER; registry and wish are made of tuples."""
     parted = [(release[0], part[0]) for release in registry for part in release[3]]
     parted.extend([(need[0], part) for need in _needs_told(registry, wish) for part in need[2]])
     parted = as_set(parted)
     items = []
-    for name in name_order(registry, wish):
+    for name in _names_told(registry, wish):
         items.append((name, ""))
         items.extend([item for item in parted if item[0] == name])
     return tuple(items)
@@ -75,12 +84,13 @@ def order_place(registry, wish, item):
     return items.index(item)
 
 
-def _states_of(registry, early, item):
+def states_from_best(registry, early, item):
+    """The STATES of item; all that is handed in is made of tuples."""
     return (None,) + from_best(open_for(registry, early, item))
 
 
 def states(registry, wish, item):
-    return _states_of(in_tuples(registry), wish[2], item)
+    return states_from_best(in_tuples(registry), wish[2], item)
 
 
 def ranks(registry, wish, lock):
@@ -90,7 +100,7 @@ def ranks(registry, wish, lock):
         raise Unfit()
     places = []
     for item in items:
-        own = _states_of(registry, wish[2], item)
+        own = states_from_best(registry, wish[2], item)
         state = there.get(item, None)
         if state not in own:
             raise Unfit()
@@ -104,7 +114,7 @@ def lock_ranked(registry, wish, places):
         raise Unfit()
     there = []
     for item, place in zip(items, places):
-        own = _states_of(registry, wish[2], item)
+        own = states_from_best(registry, wish[2], item)
         if place < 0 or place >= len(own):
             raise Unfit()
         if own[place] is not None:
@@ -113,9 +123,9 @@ def lock_ranked(registry, wish, places):
 
 
 def lots(registry, wish):
-    registry, many = in_tuples(registry), 1
-    for item in order(registry, wish):
-        many = many * len(_states_of(registry, wish[2], item))
+    registry, wish, many = in_tuples(registry), in_tuples(wish), 1
+    for item in items_told(registry, wish):
+        many = many * len(states_from_best(registry, wish[2], item))
     return many
 
 
@@ -132,7 +142,7 @@ def _closed_from(release, words, item):
             asking = [need for need in part_needs(release, own[1]) if need[0] == name]
             counted = needs_that_count(asking, words)
             needs.extend(counted)
-            waiting.extend(_targets_of(counted))
+            waiting.extend(targets_of_all(counted))
     return as_set(list(found)), needs
 
 
@@ -154,13 +164,13 @@ def _asked_when_open(registry, wish, item):
     found = []
     for version in open_for(registry, wish[2], item):
         needs = part_needs(release_of(registry, item[0], version), item[1])
-        found.extend(_targets_of(needs_that_count(needs, wish[1])))
+        found.extend(targets_of_all(needs_that_count(needs, wish[1])))
     return found
 
 
 def reached(registry, wish):
     registry, wish = in_tuples(registry), in_tuples(wish)
-    found, waiting = {}, _targets_of(needs_that_count(wish[0], wish[1]))
+    found, waiting = {}, targets_of_all(needs_that_count(wish[0], wish[1]))
     while waiting:
         item = waiting.pop()
         if item not in found:

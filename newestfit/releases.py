@@ -54,3 +54,11 @@ def open_for(registry, early, item):
     """The tuple, ascending, of the VERSIONS open for item."""
     name, part = item
     return tuple([own[1] for own in registry if own[0] == name and is_release_open(own, early, part)])
+
+
+def open_release(registry, early, item, version):
+    """The RELEASE whose VERSION is open for item; None if this one is not open for it."""
+    release = release_of(registry, item[0], version)
+    if release is None or not is_release_open(release, early, item[1]):
+        return None
+    return release

@@ -17,9 +17,13 @@ def is_ascending(rows):
 
 def in_tuples(value):
     """The same value, with a tuple for each list in it, at any depth."""
-    if isinstance(value, (list, tuple)):
-        return tuple(map(in_tuples, value))
-    return value
+    if not isinstance(value, (list, tuple)):
+        return value
+    found = []
+    for own in value:
+        # Most of what is handed in is numbers and strings: no call for these.
+        found.append(in_tuples(own) if isinstance(own, (list, tuple)) else own)
+    return tuple(found)
 
 
 def as_set(rows):

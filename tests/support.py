@@ -240,6 +240,37 @@ def open_locks(registry, wish):
     return [tuple([pair for pair in row if pair[1] is not None]) for row in itertools.product(*rows)]
 
 
+def plain_targets(needs, words, name=None):
+    """The ITEMS for which those of needs ask that count, only those of this name if one is given."""
+    return {(need[0], part) for need in needs if mark_holds(need[3], words) and name in (None, need[0])
+            for part in ("", *need[2])}
+
+
+def plain_states(registry, wish, item):
+    row = [own[1] for own in registry if own[0] == item[0] and plainly_open(registry, wish[2], item, own[1])]
+    return (None, *sorted(row, reverse=True))
+
+
+def plain_order(registry, wish):
+    items = plain_items(registry, wish)
+    first = []
+    for need in wish[0]:
+        if mark_holds(need[3], wish[1]) and need[0] not in first:
+            first.append(need[0])
+    names = first + sorted({name for name, _ in items} - set(first))
+    return tuple(names), tuple([item for name in names for item in items if item[0] == name])
+
+
+def plainly_better(registry, wish, one, other):
+    """Whether one is better, along the ORDER; both have open VERSIONS."""
+    one, other = dict(one), dict(other)
+    for item in plain_order(registry, wish)[1]:
+        if one.get(item) != other.get(item):
+            row = plain_states(registry, wish, item)
+            return row.index(one.get(item)) < row.index(other.get(item))
+    return False
+
+
 class Case(unittest.TestCase):
     """A test case that also looks at what each call does to its arguments."""
 

@@ -1,9 +1,10 @@
-"""Every example of points [4] to [9] of the document, word for word, names carried on from one to the next."""
+"""Every example of points [4] to [16] of the document, word for word, names carried on from one to the next."""
 
 import importlib
 import unittest
 
-FILES = ("errors", "versions", "ranges", "rangetexts", "marks", "registry", "items")
+FILES = ("errors", "versions", "ranges", "rangetexts", "marks", "registry", "items", "locks", "lines", "refusals",
+         "solve", "best", "updates", "alllocks")
 
 # (point, its examples): a line that tells nothing sets names.
 EXAMPLES = (
@@ -115,6 +116,136 @@ raises NoRelease(version=(1, 0, 0, 0))
 >>> needs_of(yard, ("lib", "fast"), two)
 raises Unfit()
 """),
+    (10, """
+>>> old, new, every, always = (1, 0, 0, 0), (2, 0, 0, 0), (((0, 0, 0, -9), None),), ("all", ())
+>>> quick = (("fast", (("simd", every, (), ("on", "lanes")),)),)
+>>> shop = (("json", old, (), (), (), False), ("json", new, (), quick, (), False), ("simd", old, (), (), (), False), ("web", old, (("json", every, (), always),), (), (), False), ("web", new, (("json", ((new, None),), ("fast",), always),), (), (), False))
+>>> wish = ((("web", every, (), always),), ("lanes",), ())
+>>> full = ((("json", ""), new), (("json", "fast"), new), (("simd", ""), old), (("web", ""), new))
+>>> fits(shop, wish, full), faults(shop, wish, full[:2] + full[3:]), faults(shop, wish, ())
+(True, [('need', ('json', 'fast'), (2, 0, 0, 0), 0, '')], [('wish', 0, '')])
+>>> first_fault(shop, wish, ((("web", ""), (3, 0, 0, 0)),))
+('none', ('web', ''), (((3, 0, 0, 0), (3, 0, 1, -9)),))
+>>> stale = ((("json", ""), old), (("simd", ""), old), (("web", ""), old))
+>>> needed(shop, wish, stale), lean(shop, wish, stale) == with_state(stale, ("simd", ""), None)
+((('json', ''), ('web', '')), True)
+>>> first_other(shop, wish, stale, full), is_better(shop, wish, full, stale), by_names(full[:2])
+(('web', ''), True, (('json', (2, 0, 0, 0), ('fast',)),))
+>>> by_names(full[1:])
+raises Unfit()
+"""),
+    (11, """
+>>> versions, one, two, anywhere = (((0, 0, 0, -9), None),), (1, 0, 0, 0), (2, 0, 0, 0), ("all", ())
+>>> app, lib, under_two = ("app", ""), ("lib", ""), (((0, 0, 0, -9), two),)
+>>> registry = (("app", one, (("lib", under_two, (), anywhere),), (), (), False), ("lib", two, (), (), (), False))
+>>> wish = ((("app", versions, (), anywhere),), (), ())
+>>> just_one, from_two = (app, False, ((one, (1, 0, 1, -9)),)), (lib, True, ((two, None),))
+>>> leaf_line(registry, wish, ("need", app, one, 0, "")) == (just_one, from_two), leaf_line(registry, wish, ("wish", 0, "")) == ((app, True, ()),)
+(True, True)
+>>> [own[0] for own in leaves(registry, wish)], leaves(registry, wish)[3][2] == under_two + (((2, 0, 1, -9), None),)
+(['wish', 'need', 'none', 'none'], True)
+>>> met_leaves(registry, wish, ((app, one), (lib, two))), met_leaves(registry, wish, ())
+([('need', ('app', ''), (1, 0, 0, 0), 0, '')], [('wish', 0, '')])
+>>> met_leaves(registry, wish, ((app, one), (lib, one)))[0][0], line_begun((just_one, from_two), ((app, one), (lib, None)))
+('none', True)
+>>> term_both(from_two, (lib, True, under_two)), term_either(from_two, (lib, False, under_two)) == (lib, True, versions), term_not(from_two) == (lib, False, under_two)
+((('lib', ''), True, ()), True, True)
+>>> line_of((from_two, just_one, from_two)) == (just_one, from_two), term_at((just_one,), lib) == (lib, True, versions)
+(True, True)
+>>> line_inside((just_one, from_two), (just_one,)), parting_lock((just_one,), (just_one, from_two))[0] == (app, one)
+(True, True)
+>>> is_line(((lib, True, versions),)), is_term((lib, True, versions)), is_leaf(registry, wish, ("none", lib, under_two))
+(False, True, True)
+>>> term_both(just_one, from_two)
+raises Unfit()
+"""),
+    (12, """
+>>> need_leaf, no_lib = ("leaf", ("need", app, one, 0, "")), ("leaf", leaves(registry, wish)[3])
+>>> no_app, wish_leaf = ("leaf", leaves(registry, wish)[2]), ("leaf", ("wish", 0, ""))
+>>> app_out = ("join", lib, need_leaf, no_lib)
+>>> refusal_line(registry, wish, app_out) == (just_one,), refusal_line(registry, wish, ("join", app, app_out, wish_leaf)) == ((app, True, just_one[2]),)
+(True, True)
+>>> refused = joined_all(app, (app_out, wish_leaf, no_app))
+>>> refuses(registry, wish, refused), refuses(registry, wish, app_out), refuses_beginning(registry, wish, ((app, one),), app_out), is_refusal(registry, wish, app_out)
+(True, False, True, True)
+>>> [leaf_reached(registry, wish, refused, own)[0] for own in ((), ((app, one), (lib, two)), ((app, two),))]
+['wish', 'need', 'none']
+>>> needs_used(refused), releases_used(refused), joins_in(refused), items_joined(refused) == (app, lib), len(leaves_used(refused))
+((0,), (('app', (1, 0, 0, 0)),), 3, True, 4)
+>>> trimmed(registry, wish, ("join", lib, refused, need_leaf)) == refused, rows_of(refused)[2], len(rows_of(refused)), of_rows(rows_of(refused)) == refused
+(True, ('join', ('lib', ''), 0, 1), 7, True)
+>>> lines_by_rows(registry, wish, rows_of(refused))[2:3] == [(just_one,)], is_rows((("join", app, 0, 0),))
+(True, False)
+>>> leaf_reached(registry, wish, app_out, ())
+raises Unfit()
+"""),
+    (13, """
+>>> ok, every, one, two = ("all", ()), (((0, 0, 0, -9), None),), (1, 0, 0, 0), (2, 0, 0, 0)
+>>> new, old, app, lib, net = (((2, 0, 0, -9), None),), (((0, 0, 0, -9), (2, 0, 0, -9)),), ("app", ""), ("lib", ""), ("net", "")
+>>> apps = (("app", one, (("lib", every, (), ok),), (), (), False), ("app", two, (("lib", new, (), ok), ("net", every, (), ok)), (), (), False))
+>>> shelf = apps + (("lib", one, (), (), (), False), ("lib", two, (("net", old, (), ok),), (), (), False), ("net", two, (), (), (), False))
+>>> want, hard = ((("app", every, (), ok),), (), ()), ((("app", new, (), ok),), (), ())
+>>> solved(shelf, want), best_having(shelf, want, ((net, two),))[2:]
+(('lock', ((('app', ''), (1, 0, 0, 0)), (('lib', ''), (1, 0, 0, 0)))), ((('net', ''), (2, 0, 0, 0)),))
+>>> len(looked_at(shelf, want)), looked_at(shelf, want)[:3], next_item(shelf, want, ((app, one),))
+(15, [(), ((('app', ''), None),), ((('app', ''), (2, 0, 0, 0)),)], ('lib', ''))
+>>> no_net = ("leaf", ("need", lib, two, 0, ""))
+>>> first_known(shelf, want, (no_net, closed(shelf, want, net, (no_net, no_net))), ((app, one), (lib, two))), leaf_against(shelf, want, ((app, None),))
+(1, ('wish', 0, ''))
+>>> best_having(shelf, want, ((lib, two),))
+raises NoPaper()
+>>> closed(shelf, want, net, (no_net,))
+raises Unfit()
+"""),
+    (14, """
+>>> locks = tuple(best_locks(shelf, want, 9))
+>>> len(locks), locks[0] == best_lock(shelf, want), locks[1] == best_having(shelf, want, ((net, two),)), rank_of(shelf, want, locks[1])
+(2, True, True, 1)
+>>> turned_down(shelf, want), turnings_ahead(shelf, want, locks[:1])[2]
+([(('app', ''), None), (('app', ''), (2, 0, 0, 0)), (('lib', ''), None), (('lib', ''), (2, 0, 0, 0))], ((('app', ''), (1, 0, 0, 0)), (('lib', ''), None)))
+>>> turnings(shelf, want, locks[:1])[4][2], turnings(shelf, want, locks) == turnings_ahead(shelf, want, locks[:1]), turnings(shelf, hard, ())
+((('net', ''), (2, 0, 0, 0)), True, [()])
+>>> mine = rank_paper(shelf, want, locks[:1])
+>>> [len(mine), is_rank_paper(shelf, want, locks[:1], mine), is_full_paper(shelf, want, locks, mine), is_full_paper(shelf, want, locks[:1], mine)]
+[4, True, True, False]
+>>> is_better_lock(shelf, want, locks[1], locks[0]), next_best(shelf, want, locks[0]) == locks[1], rank_paper(shelf, hard, ())
+(True, True, ())
+>>> full_paper(shelf, want, locks[:1])
+raises NoPaper()
+>>> rank_of(shelf, want, ())
+raises Unfit()
+"""),
+    (15, """
+>>> yes, one, two, last = ("all", ()), (1, 0, 0, 0), (2, 0, 0, 0), (1, 1, 0, 0)
+>>> ones, twos, app, lib = ((one, two),), ((two, None),), ("app", ""), ("lib", "")
+>>> apps = (("app", one, (("lib", ones, (), yes),), (), (), False), ("app", two, (("lib", twos, (), yes),), (), (), False))
+>>> shelf = apps + tuple([("lib", own, (), (), (), False) for own in (one, last, two)])
+>>> wish, late, old = ((("app", ((one, None),), (), yes),), (), ()), ((("app", twos, (), yes),), (), ()), ((app, one), (lib, one))
+>>> updated(shelf, wish, old) == old, refreshed(shelf, wish, old, ("lib",)), lost(shelf, late, old), updated(shelf, late, old)[1]
+(True, ((('app', ''), (1, 0, 0, 0)), (('lib', ''), (1, 1, 0, 0))), (('app', ''), ('lib', '')), (('lib', ''), (2, 0, 0, 0)))
+>>> is_lost_paper(shelf, late, old, app, ("leaf", ("wish", 0, ""))), is_lost_paper(shelf, late, old, lib, ("leaf", ("need", app, two, 0, "")))
+(True, True)
+>>> fate(shelf, ((), (), ()), old, lib), kept_states(shelf, wish, old, lib)[:3]
+('needless', ((1, 0, 0, 0), None, (2, 0, 0, 0)))
+>>> updated((), wish, old)
+raises NoPaper()
+"""),
+    (16, """
+>>> lean_locks(shelf, wish)
+[((('app', ''), (2, 0, 0, 0)), (('lib', ''), (2, 0, 0, 0))), ((('app', ''), (1, 0, 0, 0)), (('lib', ''), (1, 1, 0, 0))), ((('app', ''), (1, 0, 0, 0)), (('lib', ''), (1, 0, 0, 0)))]
+>>> how_many(shelf, wish), lean_at(shelf, wish, 2) == old, lean_number(shelf, wish, old), sure(shelf, wish), sure(shelf, late)[0]
+(3, True, 2, (), (('app', ''), (2, 0, 0, 0)))
+>>> [own[1] for own in dead(shelf, late)], states_had(shelf, wish, lib), [own[1] for own in shares(shelf, wish)], len(cover(shelf, wish))
+([(1, 0, 0, 0), (1, 0, 0, 0), (1, 1, 0, 0)], ((2, 0, 0, 0), (1, 1, 0, 0), (1, 0, 0, 0)), [2, 1, 1, 1, 1], 3)
+>>> kind_of(shelf, ((), (), ()), lib, two), kind_of(shelf, wish, lib, last), kind_of(shelf, late, lib, one), kind_of(shelf, wish, lib, (9, 0, 0, 0))
+('idle', 'live', 'dead', 'shut')
+>>> pairs_apart(shelf, wish)[0], len(pairs_apart(shelf, wish)), is_sure_paper(shelf, late, app, two, ("leaf", ("wish", 0, "")))
+(((('app', ''), (1, 0, 0, 0)), (('lib', ''), (2, 0, 0, 0))), 3, True)
+>>> sure_paper(shelf, wish, app, two)
+raises NoPaper()
+>>> lean_at(shelf, wish, 3)
+raises Unfit()
+"""),
 )
 
 
@@ -159,7 +290,7 @@ class Examples(unittest.TestCase):
                 with self.subTest(point=point, line=line):
                     self.look_at(line, told)
                 seen += 1
-        self.assertEqual(seen, 54)
+        self.assertEqual(seen, 126)
 
 
 if __name__ == "__main__":

@@ -44,10 +44,46 @@ FUNCTIONS = {
         order_place(registry,wish,item) states(registry,wish,item) ranks(registry,wish,lock)
         lock_ranked(registry,wish,places) lots(registry,wish) closing(registry,wish,item,version)
         closes(registry,wish,item,version) reached(registry,wish)""",
+    "locks": """is_lock(thing) state_of(lock,item) with_state(lock,item,state) is_met(lock,need)
+        faults(registry,wish,lock) first_fault(registry,wish,lock) fits(registry,wish,lock)
+        needed(registry,wish,lock) lean(registry,wish,lock) is_lean(registry,wish,lock)
+        first_other(registry,wish,one,other) is_better(registry,wish,one,other) by_names(lock) from_names(rows)""",
+    "lines": """is_term(thing) is_line(thing) is_beginning(thing) term_holds(term,state) term_both(one,other)
+        term_either(one,other) term_not(term) term_inside(one,other) line_of(terms) term_at(line,item)
+        line_met(line,lock) line_begun(line,beginning) lines_joined(item,near,far) line_inside(one,other)
+        parting_lock(one,other) is_parting_lock(one,other,thing) is_leaf(registry,wish,thing)
+        leaf_line(registry,wish,leaf) leaves(registry,wish) met_leaves(registry,wish,lock)""",
+    "refusals": """is_refusal(registry,wish,thing) refuses(registry,wish,thing)
+        refuses_beginning(registry,wish,beginning,thing) refusal_line(registry,wish,refusal)
+        leaf_reached(registry,wish,refusal,lock) leaves_used(refusal) needs_used(refusal) releases_used(refusal)
+        joins_in(refusal) items_joined(refusal) joined_all(item,refusals) trimmed(registry,wish,refusal)
+        rows_of(refusal) is_rows(thing) of_rows(rows) lines_by_rows(registry,wish,rows)""",
+    "solve": """has(lock,beginning) leaf_against(registry,wish,beginning) next_item(registry,wish,beginning)
+        closed(registry,wish,item,refusals) first_known(registry,wish,refusals,beginning)
+        best_having(registry,wish,beginning) refusal_having(registry,wish,beginning) solved(registry,wish)
+        is_solved(registry,wish,thing) can_fit(registry,wish) best_lock(registry,wish) refusal_of(registry,wish)
+        looked_at(registry,wish)""",
+    "best": """turnings(registry,wish,locks) turnings_ahead(registry,wish,locks) rank_paper(registry,wish,locks)
+        full_paper(registry,wish,locks) is_rank_paper(registry,wish,locks,thing)
+        is_full_paper(registry,wish,locks,thing) best_locks(registry,wish,many) ranked(registry,wish,number)
+        rank_of(registry,wish,lock) better_lock(registry,wish,lock) is_better_lock(registry,wish,lock,thing)
+        next_best(registry,wish,lock) next_better(registry,wish,lock) turned_down(registry,wish)""",
+    "updates": """kept_states(registry,wish,old,item) keeps_more(registry,wish,old,one,other)
+        held(registry,wish,old) updated(registry,wish,old) refreshed(registry,wish,old,names)
+        fate(registry,wish,old,item) lost(registry,wish,old) lost_paper(registry,wish,old,item)
+        is_lost_paper(registry,wish,old,item,thing) unlike_states(one,other)
+        best_behind(registry,wish,release) stays(registry,wish,release)""",
+    "alllocks": """lean_locks(registry,wish) how_many(registry,wish) lean_at(registry,wish,number)
+        lean_number(registry,wish,lock) shares(registry,wish) kind_of(registry,wish,item,version)
+        states_had(registry,wish,item) sure(registry,wish) dead(registry,wish)
+        sure_paper(registry,wish,item,version) is_sure_paper(registry,wish,item,version,thing)
+        pairs_apart(registry,wish) cover(registry,wish) is_cover(registry,wish,thing)""",
 }
 
-# Files as they may draw from one another: each from those ahead of it alone. shapes and releases are private.
-DRAWING = ("errors", "shapes", "versions", "ranges", "rangetexts", "marks", "releases", "registry", "items")
+# Files as they may draw from one another: each from those ahead of it alone. shapes, releases, grids and boards
+# are private.
+DRAWING = ("errors", "shapes", "versions", "ranges", "rangetexts", "marks", "releases", "registry", "items", "locks",
+           "lines", "grids", "refusals", "boards", "solve", "best", "updates", "alllocks")
 
 
 def defined_in(file_name, kind):

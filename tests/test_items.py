@@ -8,8 +8,8 @@ from newestfit.errors import NoName, NoRelease, Unfit
 from newestfit.items import asked_by, closes, closing, counting, is_item, lock_ranked, lots, name_order, needs_of, order
 from newestfit.items import order_place, ranks, reached, states, targets
 from support import APP, Case, EARLY, EVERY, FEW_VERSIONS, FROM_TWO, NAMES, NET, NO, ONE, PARTS, TWO, YARD, YES, bent
-from support import made_registry, made_wish, mark_holds, open_locks, plain_items, plain_needs, plainly_fits
-from support import plainly_holds, plainly_open, small_cases
+from support import made_registry, made_wish, mark_holds, open_locks, plain_needs, plain_order, plain_states
+from support import plain_targets, plainly_better, plainly_fits, plainly_holds, plainly_open, small_cases
 
 WISH = ((("app", EVERY, ("web",), YES), ("net", EVERY, (), ("on", "win"))), ("unix",), ("net",))
 BARE = ((), (), ())
@@ -17,12 +17,6 @@ RING = ("ring", ONE, (("ring", EVERY, ("a",), YES),),
         (("a", (("ring", EVERY, ("b",), YES),)), ("b", (("ring", EVERY, ("a", "none"), ("on", "x")),
                                                         ("app", (), (), YES)))),
         (), False)
-
-
-def plain_targets(needs, words, name=None):
-    """The ITEMS for which those of needs ask that count, only those of this name if one is given."""
-    return {(need[0], part) for need in needs if mark_holds(need[3], words) and name in (None, need[0])
-            for part in ("", *need[2])}
 
 
 def plain_closing(registry, wish, item, version):
@@ -56,31 +50,6 @@ def plain_reached(registry, wish):
         if more == found:
             return found
         found = more
-
-
-def plain_states(registry, wish, item):
-    row = [own[1] for own in registry if own[0] == item[0] and plainly_open(registry, wish[2], item, own[1])]
-    return (None, *sorted(row, reverse=True))
-
-
-def plain_order(registry, wish):
-    items = plain_items(registry, wish)
-    first = []
-    for need in wish[0]:
-        if mark_holds(need[3], wish[1]) and need[0] not in first:
-            first.append(need[0])
-    names = first + sorted({name for name, _ in items} - set(first))
-    return tuple(names), tuple([item for name in names for item in items if item[0] == name])
-
-
-def plainly_better(registry, wish, one, other):
-    """Whether one is better, along the ORDER; both have open VERSIONS."""
-    one, other = dict(one), dict(other)
-    for item in plain_order(registry, wish)[1]:
-        if one.get(item) != other.get(item):
-            row = plain_states(registry, wish, item)
-            return row.index(one.get(item)) < row.index(other.get(item))
-    return False
 
 
 class Kinds(Case):

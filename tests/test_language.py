@@ -71,6 +71,21 @@ def local_names(function):
             yield node.id
 
 
+def own_classes():
+    """All classes of the package but those of errors.py."""
+    return [node for path in files() if path.stem != "errors" for node in ast.walk(ast.parse(path.read_text()))
+            if isinstance(node, ast.ClassDef)]
+
+
+def methods_of(node):
+    return [own.name for own in node.body if isinstance(own, ast.FunctionDef) and own.name != "__init__"]
+
+
+def attributes_of(node):
+    """The names of the attributes that a class stores."""
+    return {own.attr for own in ast.walk(node) if isinstance(own, ast.Attribute) and isinstance(own.ctx, ast.Store)}
+
+
 class Language(unittest.TestCase):
     def each(self):
         for path in files():
@@ -186,12 +201,12 @@ class Language(unittest.TestCase):
                 self.look_at_value(part, True)
 
     def test_functions_and_classes(self):
-        """L4, L5, L21, L28: no decorators, stars, annotations; only error classes with an __init__."""
+        """L4, L5, L21, L28: no decorators, stars, annotations; only errors have a base class."""
         for place, node in self.nodes(ast.FunctionDef, ast.Lambda, ast.ClassDef):
             self.assertEqual(getattr(node, "decorator_list", []), [], place)
             if isinstance(node, ast.ClassDef):
-                self.assertIn(node.bases[0].id, ("ValueError", "LookupError"), place)
-                self.assertEqual(len(node.bases), 1, place)
+                bases = [own.id for own in node.bases]
+                self.assertIn(bases, [["ValueError"], ["LookupError"]] if place[0] == "errors.py" else [[]], place)
                 continue
             rest = (node.args.vararg, node.args.kwarg, *node.args.kwonlyargs, *node.args.defaults)
             self.assertEqual([own for own in rest if own is not None], [], place)
@@ -199,6 +214,32 @@ class Language(unittest.TestCase):
             self.assertIsNone(getattr(node, "returns", None), place)
             if getattr(node, "name", "").startswith("__"):
                 self.assertEqual(node.name, "__init__", place)
+
+    def test_own_members(self):
+        """L5, L18, L26: methods and attributes have names of their own; attributes are stored through self."""
+        taken = {name for kind in (str, int, list, dict, set, bytes, tuple) for name in dir(kind)} | METHODS
+        for node in own_classes():
+            own, stored = methods_of(node), attributes_of(node)
+            self.assertEqual(len(own), len(set(own)), node.name)
+            self.assertEqual(set(own) & stored, set(), node.name)
+            self.assertEqual((set(own) | stored) & (taken | NEVER_NAMES), set(), node.name)
+            for part in node.body:
+                self.assertIsInstance(part, (ast.FunctionDef, ast.Expr), node.name)
+            functions = [part for part in node.body if isinstance(part, ast.FunctionDef)]
+            self.assertTrue(all(part.args.args[0].arg == "self" for part in functions), node.name)
+        for place, node in self.nodes(ast.Attribute):
+            if not isinstance(node.ctx, ast.Load):
+                self.assertEqual(getattr(node.value, "id", None), "self", place)
+                self.assertIsInstance(node.ctx, ast.Store, place)
+
+    def test_classes_are_only_called(self):
+        """L18: a class is called, raised, caught, or stands in an import."""
+        names = {node.name for node in own_classes()}
+        for path, _, tree in self.each():
+            parents = parents_of(tree)
+            for node in ast.walk(tree):
+                if isinstance(node, ast.Name) and node.id in names:
+                    self.assertIs(getattr(parents[node], "func", None), node, node.lineno)
 
     def test_statements(self):
         """L6: only the statements of the language."""
@@ -258,13 +299,14 @@ class Language(unittest.TestCase):
 
     def test_builtins_and_methods(self):
         """L8, L9, L22, L25: only these builtins and methods, with the keywords that they may have."""
+        own = {name for node in own_classes() for name in [*methods_of(node), *attributes_of(node)]}
         for path, _, tree in self.each():
             bound = set(bound_names(tree))
             for node in ast.walk(tree):
                 if isinstance(node, ast.Name) and node.id not in bound:
                     self.assertIn(node.id, BUILTINS, node.lineno)
                 if isinstance(node, ast.Attribute) and isinstance(node.ctx, ast.Load):
-                    self.assertIn(node.attr, METHODS, node.lineno)
+                    self.assertIn(node.attr, METHODS | own, node.lineno)
                 if isinstance(node, ast.Call) and called_name(node) in BUILTINS | METHODS:
                     self.look_at_call(node)
             self.look_at_loads(tree, bound)
@@ -296,7 +338,8 @@ class Language(unittest.TestCase):
                     looped = isinstance(above, (ast.For, ast.comprehension)) and above.iter is node
                     eaten = called_name(above) in EATERS | {"combinations"}
                     spread = called_name(node) == "map" and isinstance(above, ast.Assign)
-                    self.assertTrue(looped or eaten or spread, node.lineno)
+                    turned = called_name(node) == "range" and called_name(above) == "reversed"
+                    self.assertTrue(looped or eaten or spread or turned, node.lineno)
                 if isinstance(node, ast.GeneratorExp):
                     self.assertIn(called_name(parents[node]), EATERS, node.lineno)
                     self.assertEqual(len(parents[node].args), 1, node.lineno)
