@@ -124,12 +124,9 @@ def sure_paper(registry, wish, item, version):
     if not can_fit(registry, wish):
         return refusal_of(registry, wish)
     version = in_tuples(version)
-    own = states(registry, wish, item)
-    if version not in own:
-        raise NoPaper()
+    others = [state for state in states(registry, wish, item) if state != version]
     # NoPaper() comes from here if some LOCK that fits has another STATE.
-    refused = [refusal_having(registry, wish, ((item, state),)) for state in own if state != version]
-    return joined_all(item, refused)
+    return joined_all(item, [refusal_having(registry, wish, ((item, state),)) for state in others])
 
 
 def is_sure_paper(registry, wish, item, version, thing):

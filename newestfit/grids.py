@@ -48,9 +48,7 @@ class Grid:
         return found
 
     def state_bit(self, item, state):
-        """The bit of item for a STATE, whatever its VERSION; 0 if no LINE has a TERM at item."""
-        if item not in self.fields:
-            return 0
+        """The bit of item, at which some LINE has a TERM, for a STATE, whatever its VERSION."""
         if state is None:
             return 1 << self.starts[item]
         behind = [cut for cut in self.cuts[item] if cut <= state]

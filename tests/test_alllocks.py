@@ -211,6 +211,14 @@ class Sure(Case):
                         told.append(expected)
         self.assertGreater(min(told.count(True), told.count(False)), 30)
 
+    def test_lists_for_tuples(self):
+        for item, version, told in ((APP, TWO, True), (APP, ONE, False), (LIB, TWO, False)):
+            self.says(told, is_sure_paper, registry=SHELF, wish=LATE, item=item, version=version, thing=("leaf", ("wish", 0, "")))
+        # What holds at all other VERSIONS need not hold at this one, be it a list.
+        none_but_two = ("join", APP, ("leaf", ("wish", 0, "")), ("leaf", ("none", APP, (((5, 0, 0, 0), None),))))
+        self.says(True, is_sure_paper, registry=SHELF, wish=LATE, item=APP, version=TWO, thing=none_but_two)
+        self.says(True, is_cover, registry=SHELF, wish=WISH, thing=(OLD, MID, NEW))
+
     def test_papers_say(self):
         wished = ("leaf", ("wish", 0, ""))
         self.knows(is_sure_paper, (wished,), registry=SHELF, wish=LATE, item=APP, version=TWO)
@@ -261,6 +269,38 @@ class Covers(Case):
         chain = tuple([("app", (k, 0, 0, 0), ((name, EVERY, (), YES),), (), (), False) for k, name in ((1, "lib"), (2, "net"), (3, "web"))])
         apart = chain + tuple([own for own in free if own[0] != "app"])
         self.assertEqual((how_many(apart, WISH), len(cover(apart, WISH))), (9, 9))
+
+    def test_the_greatest_gains_are_no_guide(self):
+        """Two LOCKS are a COVER, but not any two of those that have most."""
+        other = ((TWO, None),)
+        sheet = (("app", ONE, (), ()), ("app", TWO, (), ()), ("lib", ONE, (), ()), ("lib", TWO, (), (("net", other),)),
+                 ("net", ONE, (), ()), ("net", TWO, (), ()), ("web", ONE, (("app", other, (), YES),), ()), ("web", TWO, (), ()))
+        registry = tuple([(name, own, needs, (), clashes, False) for name, own, needs, clashes in sheet])
+        wish = (tuple([(name, EVERY, (), YES) for name in SMALL]), (), ())
+        found = lean_ones(registry, wish)
+        self.assertEqual(len(found), 9)
+        told = cover(registry, wish)
+        self.assertEqual(len(told), 2)
+        self.assertEqual(pairs_of(told), pairs_of(found))
+        # So it is with many that are drawn: NAMES that are all wished for, some of which clash.
+        rng = random.Random(167)
+        for _ in range(60):
+            registry = self.crowded(rng)
+            found = lean_ones(registry, wish)
+            live = pairs_of(found)
+            if len(found) < 11:
+                least = min(len(own) for own in subsets(found) if pairs_of(own) == live)
+                self.assertEqual(len(cover(registry, wish)), least)
+
+    def crowded(self, rng):
+        found = []
+        for name, number in itertools.product(SMALL, (1, 2, 3)):
+            spans = [(((low, 0, 0, 0), (high, 0, 0, -9)),) for low, high in ((1, 2), (1, 3), (2, 3), (2, 4), (3, 4))]
+            needs = tuple([(rng.choice(SMALL), rng.choice(spans), (), YES) for _ in range(rng.choice((0, 1, 1)))])
+            clashes = tuple([(rng.choice(SMALL), rng.choice(spans)) for _ in range(rng.choice((0, 0, 1)))])
+            if rng.random() < 0.8:
+                found.append((name, (number, 0, 0, 0), needs, (), clashes, False))
+        return tuple(found)
 
     def test_covers_say(self):
         self.says((), cover, registry=SHELF, wish=BARE)

@@ -139,6 +139,15 @@ class Papers(Case):
         self.assertEqual(len(nothing), 1)
         self.knows(is_full_paper, (nothing, (refusal_of(SHELF, HARD),)), registry=SHELF, wish=HARD, locks=())
 
+    def test_papers_with_lists_for_tuples(self):
+        paper = rank_paper(SHELF, WANT, (FIRST,))
+        self.says(True, is_rank_paper, registry=SHELF, wish=WANT, locks=(FIRST,), thing=paper)
+        self.says(False, is_rank_paper, registry=SHELF, wish=WANT, locks=(FIRST,), thing=paper[:3])
+        self.says(True, is_full_paper, registry=SHELF, wish=WANT, locks=BOTH, thing=paper)
+        self.says(False, is_full_paper, registry=SHELF, wish=WANT, locks=(FIRST,), thing=paper)
+        self.says(True, is_better_lock, registry=SHELF, wish=WANT, lock=SECOND, thing=FIRST)
+        self.says(False, is_better_lock, registry=SHELF, wish=WANT, lock=FIRST, thing=SECOND)
+
     def test_papers_are_judged_strictly(self):
         paper = rank_paper(SHELF, WANT, (FIRST,))
         self.knows(is_rank_paper, (paper,), registry=SHELF, wish=WANT, locks=(FIRST,))

@@ -114,6 +114,7 @@ class Kinds(Case):
             self.assertIs(is_leaf(YARD, WISH, leaf), True, leaf)
             self.assertIs(is_leaf(as_lists(YARD), as_lists(WISH), leaf), True, leaf)
             self.bars(is_leaf, list(bent(leaf)), registry=YARD, wish=WISH)
+        self.says(True, is_leaf, registry=YARD, wish=WISH, thing=("clash", "lib", TWO, 0))
         for thing in ODD_THINGS:
             self.assertIs(is_leaf(YARD, WISH, thing), False)
         self.bars(is_leaf, (("wish", 1, ""), ("wish", 0, "fast"), ("wish", -1, ""), ("wish", False, ""), ("wish", 2, ""),

@@ -227,6 +227,8 @@ class Solved(Case):
 
     def test_is_solved(self):
         self.knows(is_solved, (("lock", BEST),), registry=SHELF, wish=WANT)
+        self.says(True, is_solved, registry=SHELF, wish=WANT, thing=("lock", BEST))
+        self.says(True, is_solved, registry=SHELF, wish=HARD, thing=("refused", refusal_of(SHELF, HARD)))
         self.bars(is_solved, [*bent(("lock", BEST)), ("lock", (*BEST, (NET, TWO))), ("refused", NO_NET), BEST,
                               ("refused", refusal_of(SHELF, HARD))], registry=SHELF, wish=WANT)
         good = ("refused", refusal_of(SHELF, HARD))

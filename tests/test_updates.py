@@ -211,6 +211,8 @@ class Papers(Case):
             self.assertIs(is_lost_paper(SHELF, LATE, OLD, item, paper), True)
             self.bars(is_lost_paper, list(bent(paper)), registry=SHELF, wish=LATE, old=OLD, item=item)
         wished, asked = ("leaf", ("wish", 0, "")), ("leaf", ("need", APP, TWO, 0, ""))
+        self.says(True, is_lost_paper, registry=SHELF, wish=LATE, old=OLD, item=LIB, thing=asked)
+        self.says(False, is_lost_paper, registry=SHELF, wish=LATE, old=OLD, item=APP, thing=asked)
         self.knows(is_lost_paper, (wished,), registry=SHELF, wish=LATE, old=OLD, item=APP)
         self.knows(is_lost_paper, (asked,), registry=as_lists(SHELF), wish=as_lists(LATE), old=as_lists(OLD), item=list(LIB))
         self.bars(is_lost_paper, (wished,), registry=SHELF, wish=LATE, old=OLD, item=LIB)
