@@ -2,7 +2,7 @@
 
 from newestfit.boards import MOST_LOTS, Board, check_lots
 from newestfit.errors import NoPaper, Unfit
-from newestfit.items import states, targets_of_all
+from newestfit.items import all_come_to, states, targets_of_all
 from newestfit.lines import term_holds
 from newestfit.locks import asked_there, is_lock
 from newestfit.refusals import is_refusal, joined_all, refusal_line
@@ -15,15 +15,7 @@ from newestfit.solve import can_fit, refusal_having, refusal_of
 def _needed_by(wished, asked, chosen):
     """The list of the needed ITEMS, as they come up, if NAMES have the VERSIONS in chosen, a dict; asked is
     a dict of the ITEMS for which the pairs (ITEM, VERSION) ask, wished those for which the WISH asks."""
-    found, waiting = {}, list(wished)
-    while waiting:
-        item = waiting.pop()
-        if item not in found:
-            found[item] = True
-            waiting.append((item[0], ""))
-            if item[0] in chosen:
-                waiting.extend(asked.get((item, chosen[item[0]]), ()))
-    return list(found)
+    return all_come_to(wished, lambda item: asked.get((item, chosen.get(item[0], None)), ()))
 
 
 def lean_locks(registry, wish):

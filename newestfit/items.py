@@ -168,13 +168,20 @@ def _asked_when_open(registry, wish, item):
     return found
 
 
-def reached(registry, wish):
-    registry, wish = in_tuples(registry), in_tuples(wish)
-    found, waiting = {}, targets_of_all(needs_that_count(wish[0], wish[1]))
+def all_come_to(wished, asked_of):
+    """The list, as they come up, of the ITEMS in wished and of all to which these lead: an ITEM leads to the
+    one of its NAME with "" and to those that asked_of tells of it."""
+    found, waiting = {}, list(wished)
     while waiting:
         item = waiting.pop()
         if item not in found:
             found[item] = True
             waiting.append((item[0], ""))
-            waiting.extend(_asked_when_open(registry, wish, item))
-    return as_set(list(found))
+            waiting.extend(asked_of(item))
+    return list(found)
+
+
+def reached(registry, wish):
+    registry, wish = in_tuples(registry), in_tuples(wish)
+    wished = targets_of_all(needs_that_count(wish[0], wish[1]))
+    return as_set(all_come_to(wished, lambda item: _asked_when_open(registry, wish, item)))

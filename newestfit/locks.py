@@ -1,7 +1,7 @@
 """LOCKS: what fits, what is wrong with them, what is needed in them, which one is better."""
 
 from newestfit.errors import Unfit
-from newestfit.items import is_item, order, states, targets_of_all
+from newestfit.items import all_come_to, is_item, order, states, targets_of_all
 from newestfit.ranges import in_range, just
 from newestfit.releases import needs_that_count, open_release, part_needs
 from newestfit.marks import holds
@@ -103,15 +103,9 @@ def asked_there(registry, wish, item, version):
 
 def needed(registry, wish, lock):
     registry, wish, there = in_tuples(registry), in_tuples(wish), _versions_there(lock)
-    found, waiting = {}, targets_of_all(needs_that_count(wish[0], wish[1]))
-    while waiting:
-        item = waiting.pop()
-        if item not in found:
-            found[item] = True
-            waiting.append((item[0], ""))
-            if item in there:
-                waiting.extend(asked_there(registry, wish, item, there[item]))
-    return as_set(list(found))
+    wished = targets_of_all(needs_that_count(wish[0], wish[1]))
+    # None, the STATE of what is not there, is open for nothing: there it asks for nothing.
+    return as_set(all_come_to(wished, lambda item: asked_there(registry, wish, item, there.get(item, None))))
 
 
 def lean(registry, wish, lock):

@@ -336,3 +336,17 @@ def wide_registry(parts):
 # As many LOCKS of open VERSIONS as are allowed, 20,000; and just as few more as can be of this kind.
 WIDE = wide_registry({"ape": ("p", "q"), "bee": ("p", "q"), "cat": ("p",)})
 WIDER = WIDE + (("elk", (1, 0, 0, 0), (), (), (), False),)
+
+
+def just_over():
+    """A REGISTRY of 20,250 LOCKS of open VERSIONS, as near above the bound as REGISTRIES of four RELEASES of a NAME come."""
+    found = []
+    for name, parts in (("ape", ("p", "q")), ("bee", ("p", "q")), ("cat", ("p",))):
+        for number in range(1, 5):
+            # Two RELEASES have each part, of the last NAME one alone.
+            own = tuple([(part, ()) for part in parts]) if number <= len(parts) else ()
+            found.append((name, (number, 0, 0, 0), (), own, (), False))
+    return tuple(found)
+
+
+OVER = just_over()

@@ -10,7 +10,7 @@ from newestfit.errors import NoPaper, TooMany, Unfit
 from newestfit.lines import is_line
 from newestfit.refusals import refusal_line, refuses
 from newestfit.solve import best_lock, refusal_having, refusal_of
-from models import STRANGE, WIDE, WIDER, fitting_locks, lean_ones, leaves_in, plain_leaf, plain_lean, plain_leaves, samples_of
+from models import OVER, STRANGE, WIDE, WIDER, fitting_locks, lean_ones, leaves_in, plain_leaf, plain_lean, plain_leaves, samples_of
 from models import sets_of, tame_cases
 from support import Case, EARLY, EVERY, FEW_VERSIONS, FIRST, FROM_TWO, NO, ODD_THINGS, ONE, TWO, YES, as_lists, bent
 from support import has_lists, plain_items, plain_states, plainly_open, small_cases, subsets
@@ -325,6 +325,7 @@ class TooMuch(Case):
             self.refuses(TooMany(), states_had, registry=WIDER, wish=BARE, item=item)
         for function in (dead, pairs_apart):
             self.refuses(TooMany(), function, registry=WIDER, wish=BARE)
+            self.refuses(TooMany(), function, registry=OVER, wish=BARE)
 
     def test_these_never_tell_too_many(self):
         wish = ((("cat", EVERY, (), YES), ("elk", EVERY, (), YES)), (), ())

@@ -9,7 +9,7 @@ from newestfit.errors import NoPaper, TooMany, Unfit
 from newestfit.items import lots
 from newestfit.lines import is_beginning
 from newestfit.solve import best_lock, refusal_having, refusal_of
-from models import STRANGE, WIDE, WIDER, fitting_locks, has_begun, plain_turnings, plainly_judged, tame_cases
+from models import OVER, STRANGE, WIDE, WIDER, fitting_locks, has_begun, plain_turnings, plainly_judged, tame_cases
 from support import Case, EVERY, ODD_THINGS, ONE, TWO, YES, as_lists, bent, has_lists, open_locks, plain_order, small_cases
 
 APP, LIB, NET = ("app", ""), ("lib", ""), ("net", "")
@@ -272,9 +272,10 @@ class Wrong(Case):
         for lock in ((), bad):
             for function in WITH_LOCK:
                 self.refuses(TooMany(), function, registry=WIDER, wish=BARE, lock=lock)
-        self.refuses(TooMany(), best_locks, registry=WIDER, wish=BARE, many=0)
-        self.refuses(TooMany(), ranked, registry=WIDER, wish=BARE, number=-1)
-        self.refuses(TooMany(), turned_down, registry=WIDER, wish=BARE)
+        for registry in (OVER, WIDER):
+            self.refuses(TooMany(), best_locks, registry=registry, wish=BARE, many=0)
+            self.refuses(TooMany(), ranked, registry=registry, wish=BARE, number=-1)
+            self.refuses(TooMany(), turned_down, registry=registry, wish=BARE)
 
     def test_these_never_tell_too_many(self):
         elk = ((("elk", ""), ONE),)

@@ -9,7 +9,7 @@ from newestfit.lines import is_leaf, leaf_line, line_begun
 from newestfit.refusals import is_refusal, joined_all, joins_in, refusal_line, refuses, refuses_beginning, trimmed
 from newestfit.solve import best_having, best_lock, can_fit, closed, first_known, has, is_solved, leaf_against, looked_at
 from newestfit.solve import next_item, refusal_having, refusal_of, solved
-from models import STRANGE, WIDE, WIDER, fitting_locks, has_begun, just_one, made_beginning, made_lock, made_refusals
+from models import OVER, STRANGE, WIDE, WIDER, fitting_locks, has_begun, just_one, made_beginning, made_lock, made_refusals
 from models import none_leaves, plain_leaf, plain_leaves, plain_search, plainly_judged, samples_of, sets_of, sets_of_leaf
 from models import sets_of_line, tame_case, tame_cases
 from support import Case, EARLY, EVERY, FROM_TWO, NO, ODD_THINGS, ONE, TWO, YARD, YES, as_lists, bent, has_lists
@@ -274,7 +274,7 @@ class Search(Case):
 class TooMuch(Case):
     def test_the_bound(self):
         self.assertEqual(lots(WIDE, BARE), 20000)
-        self.assertEqual(lots(WIDER, BARE), 40000)
+        self.assertEqual((lots(OVER, BARE), lots(WIDER, BARE)), (20250, 40000))
         wish = ((("dog", EVERY, (), YES), ("cat", FROM_TWO, (), YES)), (), ())
         self.same(best_lock(WIDE, wish), ((("ape", ""), (4, 0, 0, 0)), (("cat", ""), (4, 0, 0, 0)), (("dog", ""), (4, 0, 0, 0))))
         self.assertIs(can_fit(WIDE, wish), True)
@@ -286,6 +286,7 @@ class TooMuch(Case):
         for wish in (BARE, ((("zoo", (), (), YES),), (), ())):
             for function in (solved, can_fit, best_lock, refusal_of, looked_at):
                 self.refuses(TooMany(), function, registry=WIDER, wish=wish)
+                self.refuses(TooMany(), function, registry=OVER, wish=wish)
             for function in (best_having, refusal_having):
                 self.refuses(TooMany(), function, registry=WIDER, wish=wish, beginning=((("zoo", ""), ONE),))
             for thing in (None, ("lock", ()), ["lock", ()]):

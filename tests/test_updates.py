@@ -10,7 +10,7 @@ from newestfit.registry import publish
 from newestfit.solve import best_lock, can_fit
 from newestfit.updates import best_behind, fate, held, is_lost_paper, keeps_more, kept_states, lost, lost_paper, refreshed
 from newestfit.updates import stays, unlike_states, updated
-from models import STRANGE, TAME_VERSIONS, WIDE, WIDER, fitting_locks, has_begun, made_lock, made_open_lock, plain_lean
+from models import OVER, STRANGE, TAME_VERSIONS, WIDE, WIDER, fitting_locks, has_begun, made_lock, made_open_lock, plain_lean
 from models import plainly_judged, rank_key, tame_case, tame_cases
 from support import Case, EARLY, EVERY, FROM_TWO, NAMES, ODD_THINGS, ONE, TWO, YES, as_lists, bent, has_lists, open_locks
 from support import plain_items, plain_order, plain_states, small_cases
@@ -278,6 +278,7 @@ class Changes(Case):
         old = ((("ape", ""), ONE), (("zoo", ""), ONE))
         for function in OF_OLD:
             self.refuses(TooMany(), function, registry=WIDER, wish=BARE, old=old)
+            self.refuses(TooMany(), function, registry=OVER, wish=BARE, old=())
             self.refuses(TooMany(), function, registry=WIDER, wish=((("zoo", (), (), YES),), (), ()), old=old)
         self.refuses(TooMany(), refreshed, registry=WIDER, wish=BARE, old=old, names=())
         for item in (("ape", ""), ("zoo", "p")):
