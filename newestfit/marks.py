@@ -1,9 +1,7 @@
 """MARKS: on which WORDS they hold, their plain form, and their texts."""
 
-from itertools import combinations
-
 from newestfit.errors import BadText
-from newestfit.shapes import as_set, is_ascending, is_tuple_of
+from newestfit.shapes import as_set, is_ascending, is_tuple_of, sets_of
 from newestfit.versions import LETTERS, LONGEST_NAME, is_name, stands_at
 
 ALWAYS = ("all", ())
@@ -170,15 +168,9 @@ def follows(one, other):
     return _tree_both(_tree_of(one), _tree_not(_tree_of(other))) is False
 
 
-def _sets_of(names):
-    """All sets of these NAMES, the lesser ones first."""
-    rows = list(names)
-    return [own for many in range(len(rows) + 1) for own in combinations(rows, many)]
-
-
 def _words_of(tree, names):
     """The list of the sets of these NAMES on which tree holds, the lesser ones first."""
-    return [words for words in _sets_of(names) if _tree_holds(tree, words)]
+    return [words for words in sets_of(names) if _tree_holds(tree, words)]
 
 
 def parting_words(one, other):
@@ -211,7 +203,7 @@ def _settles(tree, words, names):
 def reason(mark, words):
     tree, names = _tree_of(mark), hangs_on(mark)
     # All NAMES on which it hangs settle it; so they are left if no lesser set does.
-    for own in _sets_of(names)[:-1]:
+    for own in sets_of(names)[:-1]:
         if _settles(tree, words, own):
             return own
     return names

@@ -1,5 +1,7 @@
 """What numbers, tuples and sets are, and how lists are made into tuples."""
 
+from itertools import combinations
+
 
 def is_number(thing):
     return isinstance(thing, int) and not isinstance(thing, bool)
@@ -29,3 +31,9 @@ def in_tuples(value):
 def as_set(rows):
     """The set, an ascending tuple, of these rows."""
     return tuple(sorted(set(rows)))
+
+
+def sets_of(members):
+    """The list of all sets of these, which are a set, the least ones first: by how many, then by comparison."""
+    rows = list(members)
+    return [own for many in range(len(rows) + 1) for own in combinations(rows, many)]

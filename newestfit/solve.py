@@ -56,7 +56,7 @@ def first_known(registry, wish, refusals, beginning):
     return None
 
 
-def _searched(registry, wish, beginning):
+def searched(registry, wish, beginning):
     """The pair (lock, refusal), one of them None: the best LOCK that fits and has beginning, or a REFUSAL
     whose LINE this meets. TooMany() first of all."""
     check_lots(registry, wish)
@@ -70,21 +70,21 @@ def _searched(registry, wish, beginning):
 
 
 def best_having(registry, wish, beginning):
-    lock, refusal = _searched(registry, wish, beginning)
+    lock, refusal = searched(registry, wish, beginning)
     if refusal is not None:
         raise NoPaper()
     return lock
 
 
 def refusal_having(registry, wish, beginning):
-    _, refusal = _searched(registry, wish, beginning)
+    _, refusal = searched(registry, wish, beginning)
     if refusal is None:
         raise NoPaper()
     return refusal
 
 
 def solved(registry, wish):
-    lock, refusal = _searched(registry, wish, ())
+    lock, refusal = searched(registry, wish, ())
     return ("lock", lock) if refusal is None else ("refused", refusal)
 
 

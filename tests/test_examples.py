@@ -1,10 +1,10 @@
-"""Every example of points [4] to [16] of the document, word for word, names carried on from one to the next."""
+"""Every example of points [4] to [24] of the document, word for word, names carried on from one to the next."""
 
 import importlib
 import unittest
 
 FILES = ("errors", "versions", "ranges", "rangetexts", "marks", "registry", "items", "locks", "lines", "refusals",
-         "solve", "best", "updates", "alllocks")
+         "solve", "best", "updates", "alllocks", "least", "plans", "store", "platforms", "reasons", "judge", "texts", "shell")
 
 # (point, its examples): a line that tells nothing sets names.
 EXAMPLES = (
@@ -246,6 +246,126 @@ raises NoPaper()
 >>> lean_at(shelf, wish, 3)
 raises Unfit()
 """),
+    (17, """
+>>> k1, k2, ok, each = (1, 0, 0, 0), (2, 0, 0, 0), ("all", ()), (((0, 0, 0, -9), None),)
+>>> low, high = ((k1, k2),), ((k2, None),)
+>>> sheet = (("hub", k1, "pen", each), ("hub", k2, "pen", high), ("ink", k1, "", ()), ("ink", k2, "", ()), ("pen", k1, "ink", low), ("pen", k2, "ink", high))
+>>> stall = tuple([(name, own, ((to, line, (), ok),) if to != "" else (), (), (), False) for name, own, to, line in sheet])
+>>> hopes, nailed = ((("hub", high, (), ok), ("pen", each, (), ok)), (), ()), ((("hub", ""), k2), (("ink", ""), k1), (("pen", ""), k1))
+>>> cores(stall, hopes, nailed), drops(stall, hopes, nailed), blame(stall, hopes, nailed), loosened(stall, hopes, nailed)
+([(0, 3), (0, 4), (2, 3), (2, 4)], [(0, 2), (3, 4)], (0, 3), (3, 4))
+>>> core(stall, hopes, nailed), drop(stall, hopes, nailed), least_meets(((2, 3), (2, 4))), least_meets(())
+((0, 3), (3, 4), [(2,), (3, 4)], [()])
+>>> clashing(stall, hopes, (), (0, 2))
+raises NoNeed(number=2)
+>>> blame(stall, hopes, ())
+raises NoPaper()
+"""),
+    (18, """
+>>> older, newer = [tuple([((name, ""), own) for name in ("hub", "ink", "pen")]) for own in (k1, k2)]
+>>> mild = ((("hub", each, (), ok),), (), ())
+>>> changed(older, newer), arrows(stall, mild, older, newer), all_ahead(stall, mild, older, newer)
+(('hub', 'ink', 'pen'), (('hub', 'pen'), ('ink', 'pen'), ('pen', 'ink')), [(), ('hub', 'ink', 'pen'), ('ink', 'pen')])
+>>> plan(stall, mild, older, newer), plan(stall, mild, newer, older), knots(stall, mild, older, newer)
+((('ink', 'pen'), ('hub',)), (('hub',), ('ink', 'pen')), [('hub',), ('ink', 'pen')])
+>>> why_arrow(stall, mild, older, newer, "ink", "pen"), goes_with(stall, mild, older, newer, "ink"), is_tie(stall, mild, older, newer, ("pen", "ink"))
+([('need', ('pen', ''), (1, 0, 0, 0), 0, '')], ('ink', 'pen'), True)
+>>> plan(stall, mild, (), newer)
+raises Unfit()
+>>> tie(stall, mild, older, older)
+raises NoPaper()
+"""),
+    (19, """
+>>> bare, one, two = blank_disk(2, 2), (1, 0, 0, 0), (2, 0, 0, 0)
+>>> disk = written(bare, install_steps(bare, ((("a", ""), one),)))
+>>> disk[0], disk[1], earlier_lock(disk)
+(("done", 1), (("note", 0, (), ("has", ("a", ""), (1, 0, 0, 0))), ()), ())
+>>> lock = ((("a", ""), two), (("b", ""), one))
+>>> steps = install_steps(disk, lock)
+>>> late = cut_behind(disk, steps, 4)
+>>> late[0], late[2], read_disk(late) == lock, mended(late) == written(disk, steps)
+(("go", 2), (("torn",), ()), True, True)
+>>> read_locks(disk, steps) == (read_disk(disk), lock), is_safe(disk, steps, lock), is_safe(disk, steps[:6] + steps[7:], lock)
+(True, True, False)
+>>> read_disk(((), ((),), (("torn",),)))
+raises Unfit()
+"""),
+    (20, """
+>>> one, two, always, win = (1, 0, 0, 0), (2, 0, 0, 0), ("all", ()), ("on", "win")
+>>> every, low, high = (((0, 0, 0, -9), None),), (((0, 0, 0, -9), (2, 0, 0, -9)),), (((2, 0, 0, -9), None),)
+>>> app = ("app", one, (("gui", every, (), win), ("tty", every, (), ("not", win)), ("core", every, (), always)), (), (), False)
+>>> kerns = (("core", one, (), (), (), False), ("core", two, (), (), (), False))
+>>> house = (app,) + kerns + (("gui", one, (("core", low, (), always),), (), (), False), ("tty", one, (("core", high, (), always),), (), (), False))
+>>> wish, both = ((("app", every, (), always),), (), ()), words_by((), ("win",))
+>>> both, idle_words(house, wish), kinds(house, wish, both)
+(((), ('win',)), (), (((),), (('win',),)))
+>>> lock_table(house, wish, both)[1]
+((('app', ''), (1, 0, 0, 0)), (('core', ''), (1, 0, 0, 0)), (('gui', ''), (1, 0, 0, 0)))
+>>> more = house + (("tty", two, (), (), (), False),)
+>>> one_lock(more, wish, both)[3], len(few_locks(house, wish, both)), parting_platforms(house, wish, both)
+((('tty', ''), (2, 0, 0, 0)), 2, ((), ('win',)))
+>>> one_lock(house, wish, both)
+raises NoPaper()
+"""),
+    (21, """
+>>> wished, kern = (wish[0], ("win",), ()), ("core", "")
+>>> lock = lock_table(house, wish, both)[1]
+>>> asks(house, wished, lock)
+(((), 0, ('app', '')), (('app', ''), 0, ('gui', '')), (('app', ''), 2, ('core', '')), (('gui', ''), 0, ('core', '')))
+>>> way_to(house, wished, lock, kern), in_each_way(house, wished, lock, kern), asks_to_drop(house, wished, lock, kern)
+((((), 0, ('app', '')), (('app', ''), 2, ('core', ''))), (('app', ''),), (((), 0, ('app', '')),))
+>>> must_releases(more, wish), harm(more, wish, "core", two), hurt(more, (wish, wished), "gui", one)
+((('app', (1, 0, 0, 0)),), ((('core', ''), (2, 0, 0, 0), (1, 0, 0, 0)),), ((), (1,)))
+>>> way_to(house, wished, lock, ("tty", ""))
+raises NoName(name='tty')
+"""),
+    (22, """
+>>> anything, everywhere, early_on, later_on = (((0, 0, 0, -9), None),), ("all", ()), (1, 0, 0, 0), (2, 0, 0, 0)
+>>> cup, leaf_tea = ("cup", early_on, (), (), (), False), ("tea", early_on, (("cup", anything, (), everywhere),), (), (), False)
+>>> new_tea = ("tea", later_on, (("cup", ((later_on, None),), (), everywhere),), (), (), False)
+>>> shelf_of, thirst = (cup, leaf_tea, new_tea), ((("tea", anything, (), everywhere),), (), ())
+>>> strict, served = ((("tea", ((later_on, None),), (), everywhere),), (), ()), ((("cup", ""), early_on), (("tea", ""), early_on))
+>>> paper(("solved", shelf_of, thirst)) == served, is_so(("solved", shelf_of, strict)), is_so(("best", shelf_of, thirst, served))
+(True, False, True)
+>>> cupless, later_tea = ("join", ("cup", ""), ("leaf", ("need", ("tea", ""), later_on, 0, "")), ("leaf", ("none", ("cup", ""), ((later_on, None),)))), ("leaf", ("none", ("tea", ""), (((2, 0, 1, -9), None),)))
+>>> tree = ("join", ("tea", ""), ("join", ("tea", ""), ("leaf", ("wish", 0, "")), cupless), later_tea)
+>>> shows(("solved", shelf_of, strict), tree), shows(("solved", shelf_of, thirst), tree), shows(("begun", shelf_of, thirst, ((("tea", ""), later_on),)), tree)
+(False, None, False)
+>>> shows(("core", shelf_of, strict, (), (0,)), ((0,), tree, ((),))), not_so((("solved", shelf_of, strict), ("solved", shelf_of, thirst)))
+(True, (0,))
+>>> shows(("alike", ("on", "home"), ("all", ())), ()), words_so((("alike", ("on", "home"), ("on", "home")), ("solved", shelf_of, strict)))
+(False, ('alike',))
+>>> is_claim(("solved", shelf_of, thirst)), is_claim(("solved", shelf_of)), is_claim(("alike", ("on", "home"), ("on", "A")))
+(True, False, False)
+>>> is_so(("solved", shelf_of))
+raises Unfit()
+>>> is_so(("proud", shelf_of))
+raises NoWord(word='proud')
+"""),
+    (23, """
+>>> lock_text(full), lock_changes(stale, full)
+('lock\\n json 2.0.0\\n json/fast 2.0.0\\n simd 1.0.0\\n web 2.0.0', '~ json 1.0.0 2.0.0\\n+ json/fast 2.0.0\\n~ web 1.0.0 2.0.0')
+>>> lock_changed(stale, lock_changes(stale, full)) == full, lock_turned("+ json/fast 2.0.0"), lock_text(()), registry_text(())
+(True, '- json/fast 2.0.0', 'lock', '')
+>>> read_registry(registry_text(shop)) == shop, read_registry("release simd 1.0.0\\n pulled\\n part fast"), read_wish("wish\\n early simd")
+(True, (('simd', (1, 0, 0, 0), (), (('fast', ()),), (), True),), ((), (), ('simd',)))
+>>> read_registry("release simd 1.0.0\\n part fast\\n pulled")
+raises BadLine(number=3)
+>>> read_lock("lock\\n web 1.0.0\\n json 1.0.0")
+raises BadLine(number=3)
+>>> lock_changed(stale, "- json 2.0.0")
+raises BadLine(number=1)
+"""),
+    (24, """
+>>> start = session(first_shell(), "registry\\n release app 1.0.0\\n  need lib *\\n release lib 1.0.0\\n release lib 2.0.0")[0]
+>>> here, said = session(start, "status\\nadd app *\\nlock\\nwhy lib\\nadd lib <2.0.0\\nstatus\\nlock\\ninstall\\nadd lib =2.0.0\\nlock\\nblame\\nundo\\nstatus\\ndisk")
+>>> said[:8], said[8:]
+(('none', 'done', 'done', 'app 0', 'done', 'broken', 'done', 'done'), ('done', 'refused NoPaper', '1 2', 'add', 'best', 'lock\\n app 1.0.0\\n lib 1.0.0'))
+>>> session(here, "redo\\nredo\\nwhy gui")[1], [is_request(own) for own in ("cut 007", "registry", "registry\\n ")]
+(('add', 'refused NothingDone', 'refused Unfit'), [False, False, True])
+>>> session(start, "lock\\nfetch")
+raises BadLine(number=2)
+"""),
 )
 
 
@@ -290,7 +410,7 @@ class Examples(unittest.TestCase):
                 with self.subTest(point=point, line=line):
                     self.look_at(line, told)
                 seen += 1
-        self.assertEqual(seen, 126)
+        self.assertEqual(seen, 193)
 
 
 if __name__ == "__main__":

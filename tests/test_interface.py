@@ -78,12 +78,46 @@ FUNCTIONS = {
         states_had(registry,wish,item) sure(registry,wish) dead(registry,wish)
         sure_paper(registry,wish,item,version) is_sure_paper(registry,wish,item,version,thing)
         pairs_apart(registry,wish) cover(registry,wish) is_cover(registry,wish,thing)""",
+    "least": """cut(wish,begun,numbers) clashing(registry,wish,begun,numbers) core(registry,wish,begun)
+        drop(registry,wish,begun) cores(registry,wish,begun) drops(registry,wish,begun) blame(registry,wish,begun)
+        fewest_dropped(registry,wish,begun) loosened(registry,wish,begun) least_meets(sets)
+        core_paper(registry,wish,begun,numbers) drop_paper(registry,wish,begun,numbers)
+        is_core_paper(registry,wish,begun,thing) is_drop_paper(registry,wish,begun,thing)""",
+    "plans": """changed(near,far) lock_then(near,far,names) arrows(registry,wish,near,far)
+        why_arrow(registry,wish,near,far,x,y) keeps_ahead(registry,wish,near,far,names)
+        all_ahead(registry,wish,near,far) goes_with(registry,wish,near,far,name) knots(registry,wish,near,far)
+        plan(registry,wish,near,far) is_plan(registry,wish,near,far,thing) one_by_one(registry,wish,near,far)
+        tie(registry,wish,near,far) is_tie(registry,wish,near,far,thing)""",
+    "store": """is_disk(thing) blank_disk(notes,rooms) is_writing(disk,thing) read_disk(disk) earlier_lock(disk)
+        written(disk,writing) cut_behind(disk,writing,many) cut_disks(disk,writing) end_disks(disk,writing)
+        read_locks(disk,writing) mend_steps(disk) mended(disk) room_changes(disk,lock) install_steps(disk,lock)
+        undo_steps(disk) clean_steps(disk) is_safe(disk,writing,lock) bad_cut(disk,writing,lock)
+        is_bad_cut(disk,writing,lock,thing) needless_steps(disk,writing,lock)""",
+    "platforms": """is_family(thing) words_by(surely,maybe) words_told(registry,wish) idle_words(registry,wish)
+        needs_counting(registry,wish,words) kinds(registry,wish,family) lock_table(registry,wish,family)
+        refused_words(registry,wish,family) fitting_words(registry,wish,family,lock)
+        parting_platforms(registry,wish,family) for_all(registry,wish,family) one_lock(registry,wish,family)
+        one_refusal(registry,wish,family) few_locks(registry,wish,family) are_locks_for(registry,wish,family,thing)""",
+    "reasons": """asks(registry,wish,lock) who_asks(registry,wish,lock,item) way_to(registry,wish,lock,item)
+        is_way(registry,wish,lock,item,thing) ways_apart(registry,wish,lock,item)
+        are_ways_apart(registry,wish,lock,item,thing) asks_to_drop(registry,wish,lock,item)
+        is_ask_drop(registry,wish,lock,item,thing) in_each_way(registry,wish,lock,item)
+        falls_with(registry,wish,lock,item) after_pull(registry,wish,name,version) harm(registry,wish,name,version)
+        hurt(registry,wishes,name,version) must_releases(registry,wish) must_refusal(registry,wish,name,version)""",
+    "judge": """is_claim(thing) is_so(claim) paper(claim) is_paper(claim,thing) shows(claim,thing) not_so(claims)
+        words_so(claims)""",
+    "texts": """registry_text(registry) wish_text(wish) lock_text(lock) need_text(need) lock_changes(one,other)
+        read_registry(text) read_wish(text) read_lock(text) read_need(text) lock_changed(lock,text)
+        lock_turned(text)""",
+    "shell": """first_shell() is_request(thing) requests(text) house_after(house,request) told(house,request)
+        worked(shell,request) session(shell,text)""",
 }
 
-# Files as they may draw from one another: each from those ahead of it alone. shapes, releases, grids and boards
-# are private.
-DRAWING = ("errors", "shapes", "versions", "ranges", "rangetexts", "marks", "releases", "registry", "items", "locks",
-           "lines", "grids", "refusals", "boards", "solve", "best", "updates", "alllocks")
+# Files as they may draw from one another: each from those ahead of it alone. shapes, graphs, releases, grids and
+# boards are private.
+DRAWING = ("errors", "shapes", "graphs", "versions", "ranges", "rangetexts", "marks", "releases", "registry", "items", "locks",
+           "lines", "grids", "refusals", "boards", "solve", "best", "updates", "alllocks", "least", "plans", "store",
+           "platforms", "reasons", "judge", "texts", "shell")
 
 
 def defined_in(file_name, kind):
