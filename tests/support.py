@@ -2,8 +2,11 @@
 
 import copy
 import itertools
+import time
 import unittest
 
+# How long one call may take, in seconds.
+LIMIT = 20
 FIRST = (0, 0, 0, -9)
 EVERY = ((FIRST, None),)
 YES, NO = ("all", ()), ("any", ())
@@ -272,7 +275,13 @@ def plainly_better(registry, wish, one, other):
 
 
 class Case(unittest.TestCase):
-    """A test case that also looks at what each call does to its arguments."""
+    """A test case that also looks at what each call does to its arguments, or at how long it takes."""
+
+    def timed(self, function, *given):
+        begun = time.monotonic()
+        told = function(*given)
+        self.assertLess(time.monotonic() - begun, LIMIT, function.__name__)
+        return told
 
     def says(self, expected, function, **given):
         """function tells expected: by position, by name, with lists for tuples, twice over."""

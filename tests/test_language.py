@@ -213,6 +213,31 @@ class Language(unittest.TestCase):
             for part in [*value, *value.values()]:
                 self.look_at_value(part, True)
 
+    def test_tables_are_only_read(self):
+        """L15: a list or dict at module level is read by an index, by in, by len or the like; never passed on."""
+        for path, _, tree in self.each():
+            tables = {node.targets[0].id for node in tree.body if isinstance(node, ast.Assign) and isinstance(node.value, (ast.Dict, ast.List))}
+            parents = parents_of(tree)
+            for node in ast.walk(tree):
+                if isinstance(node, ast.Name) and node.id in tables and isinstance(node.ctx, ast.Load):
+                    above = parents[node]
+                    indexed = isinstance(above, ast.Subscript) and above.value is node and isinstance(above.ctx, ast.Load)
+                    asked = isinstance(above, ast.Compare) and node in above.comparators and isinstance(above.ops[0], (ast.In, ast.NotIn))
+                    self.assertTrue(indexed or asked or called_name(above) in ("len", "sorted", "list", "dict"), (node.id, node.lineno))
+
+    def test_strings_in_f_strings(self):
+        """L27: a string inside the braces stands on one line, without a backslash or a hash beside it."""
+        for path, text, tree in self.each():
+            for node in ast.walk(tree):
+                if isinstance(node, ast.JoinedStr):
+                    self.assertEqual(node.lineno, node.end_lineno)
+                    inner = [own for part in node.values if isinstance(part, ast.FormattedValue) for own in ast.walk(part.value)
+                             if isinstance(own, (ast.Constant, ast.JoinedStr)) and not isinstance(getattr(own, "value", ""), int)]
+                    if inner:
+                        line = text.splitlines()[node.lineno - 1]
+                        self.assertFalse(set(line) & set("\\#"), line)
+                        self.assertFalse([own for own in inner if isinstance(own, ast.JoinedStr)], line)
+
     def test_functions_and_classes(self):
         """L4, L5, L21, L28: no decorators, stars, annotations; only errors have a base class."""
         for place, node in self.nodes(ast.FunctionDef, ast.Lambda, ast.ClassDef):

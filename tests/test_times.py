@@ -2,7 +2,6 @@
 does not matter."""
 
 import random
-import time
 import unittest
 
 from newestfit.alllocks import cover, dead, is_cover, kind_of, lean_locks, pairs_apart, shares, states_had, sure
@@ -21,7 +20,6 @@ from support import Case, EVERY, YES, as_lists, made_mark, made_range
 
 SIX = ("ape", "bee", "cat", "dog", "elk", "fox")
 WORDS = ("a", "b", "c", "d", "e", "f")
-LIMIT = 20
 
 
 def full_range(rng):
@@ -61,12 +59,6 @@ FREE = tuple([(name, (number, 0, 0, 0), (), (), (), False) for name in SIX for n
 
 
 class Times(Case):
-    def timed(self, function, *given):
-        begun = time.monotonic()
-        told = function(*given)
-        self.assertLess(time.monotonic() - begun, LIMIT, function.__name__)
-        return told
-
     def test_the_largest_registry(self):
         rng = random.Random(171)
         registry, wish = full_registry(rng)
