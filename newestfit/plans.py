@@ -36,15 +36,13 @@ def _arrow_rows(registry, wish, near, far):
     """The set of the triples (x, y, LEAF): an ARROW from x to y, and a LEAF that makes it. Unfit() first of
     all."""
     _check_fit(registry, wish, near, far)
-    registry, wish, near, far = in_tuples(registry), in_tuples(wish), in_tuples(near), in_tuples(far)
-    there, rows = changed(near, far), []
+    registry, wish, rows = in_tuples(registry), in_tuples(wish), []
     for leaf in leaves_told(registry, wish):
-        if leaf[0] not in ("need", "clash"):
-            continue
         line = line_of_leaf(registry, wish, leaf)
         names = as_set([term[0][0] for term in line])
-        # A LINE of one NAME alone can't be met in part by near, in part by far.
-        if len(names) == 2 and names[0] in there and names[1] in there:
+        # Just the LINES of needs and clashes speak of two NAMES; none is met if one of these is not changed,
+        # as then all is as in near, or as in far, which fit.
+        if len(names) == 2:
             for x, y in (names, names[::-1]):
                 mixed = [pair for pair in far if pair[0][0] == x] + [pair for pair in near if pair[0][0] == y]
                 if line_met(line, mixed):

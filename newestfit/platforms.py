@@ -2,7 +2,6 @@
 
 from itertools import combinations
 
-from newestfit.boards import check_lots
 from newestfit.errors import NoPaper
 from newestfit.locks import fits, is_lock
 from newestfit.marks import ALWAYS, NEVER, hangs_on, holds, is_words, names_of
@@ -61,7 +60,6 @@ def _by_words(wish, words):
 
 
 def lock_table(registry, wish, family):
-    check_lots(registry, wish)
     return tuple([searched(registry, _by_words(wish, words), ())[0] for words in family])
 
 
@@ -103,8 +101,7 @@ def for_all(registry, wish, family):
 
 def one_search(registry, wish, family):
     """The pair (lock, refusal), one of them None: the best LOCK of the pair of for_all, or a REFUSAL of LINE
-    () of it. TooMany() first of all."""
-    check_lots(registry, wish)
+    () of it. TooMany() first of all, as both have as many LOCKS of open VERSIONS."""
     wide, wanted = for_all(registry, wish, family)
     return searched(wide, wanted, ())
 
@@ -136,11 +133,9 @@ def _choices(registry, wish, family):
 
 
 def few_locks(registry, wish, family):
-    check_lots(registry, wish)
-    family = in_tuples(family)
     choices = _choices(registry, wish, family)
     # No more than one LOCK for each WORDS is wanted.
-    for many in range(len(family) + 1):
+    for many in range(1, len(family) + 1):
         for chosen in combinations(choices, many):
             reached = [words for own, _ in chosen for words in own]
             if all(words in reached for words in family):

@@ -27,7 +27,7 @@ def _asks_by(asker, needs, words):
 def asks(registry, wish, lock):
     if not fits(registry, wish, lock):
         raise Unfit()
-    registry, wish = in_tuples(registry), in_tuples(wish)
+    registry = in_tuples(registry)
     found = _asks_by(WISHED, wish[0], wish[1])
     for item, version in in_tuples(lock):
         # What fits is open: so the RELEASE is there.
@@ -66,7 +66,7 @@ def _is_ask(found, thing):
 
 
 def _is_way(found, item, thing):
-    if not isinstance(thing, tuple) or thing == () or not all(_is_ask(found, own) for own in thing):
+    if not isinstance(thing, tuple) or not all(_is_ask(found, own) for own in thing):
         return False
     come_to = [own[2] for own in thing]
     askers = [own[0] for own in thing]

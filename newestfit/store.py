@@ -315,8 +315,6 @@ def clean_steps(disk):
 def _is_right(own, before, ahead, lock):
     """Whether own, a cut, is right for a DISK that means before, the LOCK ahead of it being ahead."""
     meant, earlier = _meaning(own), _lock_ahead(own)
-    if meant is None:
-        return False
     if meant == before and (earlier is None or earlier == ahead):
         return True
     return meant == lock and (earlier is None or earlier == before)

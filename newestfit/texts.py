@@ -67,7 +67,7 @@ def _release_lines(release):
 
 
 def registry_text(registry):
-    return "\n".join([line for release in in_tuples(registry) for line in _release_lines(release)])
+    return "\n".join([line for release in registry for line in _release_lines(release)])
 
 
 def wish_text(wish):
@@ -80,7 +80,7 @@ def wish_text(wish):
 
 
 def lock_text(lock):
-    rows = [f" {item_text(item)} {version_text(version)}" for item, version in in_tuples(lock)]
+    rows = [f" {item_text(item)} {version_text(version)}" for item, version in lock]
     return "\n".join(["lock"] + rows)
 
 

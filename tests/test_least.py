@@ -257,7 +257,8 @@ class Papers(Case):
         self.bars(is_drop_paper, [*bent(drop_paper(**GIVEN, numbers=(0, 2))), whole], **given)
         self.bars(is_core_paper, [*ODD_THINGS, (whole[0], whole[1], whole[2][::-1]), (whole[0][::-1], *whole[1:]),
                                   (whole[0], whole[1], whole[2][:1]), ((2, 9), *whole[1:]), ((-1, 2), *whole[1:]),
-                                  ((2, True), *whole[1:]), ((2, 2), *whole[1:])], **given)
+                                  ((2, True), *whole[1:]), ((2, 2), *whole[1:]), (whole[0][::-1], whole[1], whole[2][::-1]),
+                                  ((2, 2, 4), whole[1], whole[2][:1] + whole[2])], **given)
         self.bars(is_drop_paper, ODD_THINGS, **given)
         self.knows(is_core_paper, [whole], **given)
         self.knows(is_drop_paper, [drop_paper(**GIVEN, numbers=(3, 4))], **given)

@@ -233,6 +233,24 @@ class Tables(Case):
         self.says(((HOUSE[1],), ((("core", HIGH, (), NO), ("core", LOW, (), YES)), (), ("a",))), for_all, registry=(HOUSE[1],),
                   wish=(wish[0], ("win",), ("a",)), family=BOTH)
 
+    def test_as_few_as_can_be(self):
+        """By each WORDS some of seven VERSIONS fit, whichever: as few as have one for each."""
+        rng, seen = random.Random(2004), set()
+        versions = tuple([(k + 1, 0, 0, 0) for k in range(7)])
+        registry = tuple([("a", version, (), (), (), False) for version in versions])
+        for _ in range(80):
+            words = tuple([(word,) for word in "vwxyz"[:rng.randint(2, 5)]])
+            fitting = [tuple(sorted(rng.sample(versions, rng.randint(1, 3)))) for _ in words]
+            needs = tuple([("a", tuple([(version, (version[0], 0, 1, -9)) for version in own]), (), ("on", word))
+                           for own, (word,) in zip(fitting, words)])
+            told = few_locks(registry, (needs, (), ()), words)
+            many = next(many for many in range(1, 6) if any(
+                all(set(own) & set(chosen) for own in fitting) for chosen in itertools.combinations(versions, many)))
+            self.assertEqual(len(told), many)
+            self.assertIs(are_locks_for(registry, (needs, (), ()), words, told), True)
+            seen.add((many, len(words)))
+        self.assertGreaterEqual(len(seen), 9, seen)
+
     def test_three_platforms_two_locks(self):
         """Each two of three fit together, all three do not."""
         marks = [("on", word) for word in ("x", "y", "z")]

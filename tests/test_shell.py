@@ -29,7 +29,7 @@ DEEDS = ("registry\n ", "wish\n wish", "add lib *", "drop lib", "word win", "ear
 LOOKS = ("status", "show", "wished", "disk", "why lib", "why lib/fast", "blame")
 STEPS = ("undo", "redo")
 FINE = (*DEEDS, *LOOKS, *STEPS, "registry\n nonsense\n ", "wish\n  ", "add x", "add ) ( !", "cut 9999", "cut 10", "word word", "why a/b",
-        "pull pull 0.0.0-9", "registry\n " + "x" * 300)
+        "pull pull 0.0.0-9", "drop registry", "word wish", "early lock", "why undo", "why wish/add", "add wish", "add wish *", "registry\n " + "x" * 300)
 WRONG = ("", " ", "\n", "registry", "wish", "wish ", "registry ", "registry x\n release a 1.0.0", "wish\n", "wish\n\n ", "wish\nneed a *", "add",
          "add ", "add  lib *", "add lib * ", "add lib *\n more", "drop", "drop A", "drop a b", "drop a/b", "word", "word a,b", "early 1", "pull a",
          "pull a 1.0", "pull a 1.0.0 1", "pull a/b 1.0.0", "lock ", " lock", "lock now", "lock\n ", "Lock", "locks", "cut", "cut 007", "cut 12345",
@@ -261,6 +261,15 @@ class Deeds(Case):
         self.says((registry, (wish[0], ("lin", "mac", "win"), ("app", "lib")), lock, disk), house_after, house=both, request="word mac")
         many = (registry, (wish[0] + (need,) + wish[0], (), ()), lock, disk)
         self.says((registry, ((need,), (), ()), lock, disk), house_after, house=many, request="drop app")
+        # NAMES may be what requests begin with.
+        for word in ("registry", "wish", "add", "drop", "word", "early", "pull", "lock", "keep", "install", "cut", "mend", "undo", "status", "show",
+                     "wished", "disk", "why", "blame"):
+            self.says((registry, (wish[0], (word,), ()), lock, disk), house_after, house=HOUSE, request=f"word {word}")
+            self.says((registry, (wish[0], (), (word,)), lock, disk), house_after, house=HOUSE, request=f"early {word}")
+            self.refuses(NoName(word), house_after, house=HOUSE, request=f"drop {word}")
+            self.refuses(NoName(word), house_after, house=HOUSE, request=f"pull {word} 1.0.0")
+            self.refuses(NoName(word), told, house=HOUSE, request=f"why {word}")
+            self.same(worked((HOUSE, (), ()), f"word {word}")[0][1], (("word", HOUSE),))
         # keep holds on to what is there.
         self.says((registry, wish, OLD, disk), house_after, house=(registry, wish, OLD, disk), request="keep")
         self.says(HOUSE, house_after, house=(registry, wish, OLD, disk), request="lock")

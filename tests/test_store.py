@@ -184,6 +184,11 @@ class Cuts(Case):
         self.says(((), lock), read_locks, disk=disk, writing=(put, SYNC))
         self.says(True, is_safe, disk=disk, writing=(), lock=())
         self.says(False, is_safe, disk=disk, writing=(put, SYNC), lock=lock)
+        # Right as it is, but no end: it does not mean the LOCK, though what it means is ahead of it.
+        still = (("done", 1), (("note", 0, A, A),), (A,))
+        self.says(False, is_safe, disk=still, writing=(), lock=())
+        self.says(True, is_bad_cut, disk=still, writing=(), lock=(), thing=still)
+        self.says(True, is_safe, disk=still, writing=(), lock=lock)
         # Several puts of one cell: any of their words may lie there.
         twice = (("put", ("room", 0), B), put, put, ("put", ("room", 0), ()))
         self.assertEqual(len(cut_disks(disk, twice)), 4)

@@ -449,6 +449,7 @@ class Changes(Case):
         self.says(text, lock_changes, one=STALE, other=FULL)
         self.says(FULL, lock_changed, lock=STALE, text=text)
         self.says("", lock_changes, one=FULL, other=FULL)
+        self.says(FULL, lock_changed, lock=FULL, text="")
         self.says("", lock_turned, text="")
         self.says("- json/fast 2.0.0", lock_turned, text="+ json/fast 2.0.0")
         self.says("~ json 2.0.0 1.0.0\n- json/fast 2.0.0\n~ web 2.0.0 1.0.0", lock_turned, text=text)
