@@ -5,8 +5,9 @@ import random
 import unittest
 
 from newestfit.errors import Unfit
-from newestfit.store import blank_disk, clean_steps, cut_behind, cut_disks, earlier_lock, end_disks, install_steps, is_safe
-from newestfit.store import is_writing, mend_steps, mended, needless_steps, read_disk, room_changes, undo_steps, written
+from newestfit.store import blank_disk, clean_steps, cut_behind, cut_disks, earlier_lock, end_disks, install_steps
+from newestfit.store import is_safe, is_writing, mend_steps, mended, needless_steps, read_disk, room_changes, undo_steps
+from newestfit.store import written
 from stores import A, B, HEAD, SYNC, TORN, bad_ones, made_lock, meaning, tame_disk, told_notes
 from support import Case, ONE, TWO
 

@@ -11,14 +11,12 @@ from newestfit.least import core_paper
 from newestfit.marks import is_words
 from newestfit.platforms import for_all
 from newestfit.updates import held
-from models import OVER, WIDER, fitting_locks, has_begun, made_beginning, made_lock, plain_turnings, plainly_judged, rank_key
-from models import tame_cases
-from support import Case, EVERY, NO, ODD_THINGS, ONE, TWO, YES, as_lists, bent, half_lists, has_lists, made_mark, mark_holds
-from support import nested, plainly_fits, small_cases, subsets
-from test_least import Plain
-from test_plans import led_to, plain_arrows, plain_lock, plainly_changed, woven_case
-from test_platforms import by
-from test_updates import base_of, beginning_of, plainly_held
+from models import OVER, WIDER, fitting_locks, has_begun, made_beginning, made_lock, plain_turnings, plainly_judged
+from models import rank_key, tame_cases
+from plain import PlainAsks, base_of, beginning_of, by, led_to, plain_arrows, plain_lock, plainly_changed, plainly_held
+from plain import woven_case
+from support import Case, EVERY, NO, ODD_THINGS, ONE, TWO, YES, as_lists, bent, half_lists, has_lists, made_mark
+from support import mark_holds, nested, plainly_fits, small_cases, subsets
 
 WORDS = ("alike", "begun", "best", "core", "everywhere", "lost", "single", "solved")
 HOME = ("on", "home")
@@ -32,6 +30,7 @@ CUP_ITEM, TEA = ("cup", ""), ("tea", "")
 TREE = ("join", TEA, ("join", TEA, ("leaf", ("wish", 0, "")),
                       ("join", CUP_ITEM, ("leaf", ("need", TEA, TWO, 0, "")), ("leaf", ("none", CUP_ITEM, ((TWO, None),))))),
         ("leaf", ("none", TEA, (((2, 0, 1, -9), None),))))
+
 
 def claims_of(word):
     """One CLAIM of this word that is so, and one that is not."""
@@ -139,7 +138,7 @@ class Drawn(Case):
         rng, seen = random.Random(2204), [0, 0, 0]
         for registry, wish, _ in cases(rng, 40):
             begun = made_beginning(rng, registry, wish, rng.random() < 0.3)[:5 - len(wish[0])]
-            plain = Plain(registry, wish, begun)
+            plain = PlainAsks(registry, wish, begun)
             for numbers in rng.sample(subsets(plain.everything), min(12, 2 ** len(plain.everything))):
                 claim, so = ("core", registry, wish, begun, numbers), plain.is_core(numbers)
 

@@ -7,9 +7,10 @@ import unittest
 from newestfit.errors import NoNeed, NoPaper, TooMany
 from newestfit.least import blame, clashing, core, core_paper, cores, cut, drop, drop_paper, drops, fewest_dropped
 from newestfit.least import is_core_paper, is_drop_paper, least_meets, loosened
-from models import OVER, STRANGE, WIDE, WIDER, made_beginning, plainly_judged, tame_cases
-from support import Case, EVERY, NO, ODD_THINGS, ONE, TWO, YES, as_lists, bent, has_lists, mark_holds, open_locks
-from support import plainly_fits, plainly_met, small_cases, subsets
+from models import OVER, STRANGE, WIDE, WIDER, made_beginning, tame_cases
+from plain import PlainAsks, plain_cut
+from support import Case, EVERY, NO, ODD_THINGS, ONE, TWO, YES, as_lists, bent, has_lists, mark_holds, small_cases
+from support import subsets
 
 LOW, HIGH = ((ONE, TWO),), ((TWO, None),)
 # The examples' stall: hub 2 needs pen 2; each pen needs ink of its own age.
@@ -21,76 +22,6 @@ HOPES, NAILED = ((("hub", HIGH, (), YES), ("pen", EVERY, (), YES)), (), ()), ((H
 GIVEN = {"registry": STALL, "wish": HOPES, "begun": NAILED}
 OF_ALL = (core, drop, cores, drops, blame, fewest_dropped, loosened)
 OF_NUMBERS = (clashing, core_paper, drop_paper)
-
-
-def plain_cut(wish, begun, numbers):
-    asks = [("need", need) for need in wish[0]] + [("begun", pair) for pair in begun]
-    chosen = [asks[number] for number in numbers]
-    needs, pairs = [tuple([own for kind, own in chosen if kind == word]) for word in ("need", "begun")]
-    return (needs, wish[1], wish[2]), pairs
-
-
-class Plain:
-    """All LOCKS that fit without the needs of the WISH, each with the asks that it answers."""
-
-    def __init__(self, registry, wish, begun):
-        self.given = registry, wish, begun
-        self.everything = tuple(range(len(wish[0]) + len(begun)))
-        self.rows = []
-        bare = ((), wish[1], wish[2])
-        for lock in open_locks(registry, wish):
-            if plainly_fits(registry, bare, lock):
-                met = [plainly_met(lock, need) or not mark_holds(need[3], wish[1]) for need in wish[0]]
-                had = [dict(lock).get(item) == state for item, state in begun]
-                self.rows.append((lock, {number for number, own in enumerate(met + had) if own}))
-        self.clashing = {own for own in subsets(self.everything) if not self.answers(own)}
-
-    def answers(self, numbers):
-        return [lock for lock, answered in self.rows if set(numbers) <= answered]
-
-    def left(self, numbers):
-        return tuple([own for own in self.everything if own not in numbers])
-
-    def is_core(self, numbers):
-        less = [tuple([own for own in numbers if own != number]) for number in numbers]
-        return numbers in self.clashing and not any(own in self.clashing for own in less)
-
-    def is_drop(self, numbers):
-        more = [self.left([own for own in numbers if own != number]) for number in numbers]
-        return self.left(numbers) not in self.clashing and all(own in self.clashing for own in more)
-
-    def core(self):
-        kept = list(self.everything)
-        for number in reversed(self.everything):
-            if tuple([own for own in kept if own != number]) in self.clashing:
-                kept.remove(number)
-        return tuple(kept)
-
-    def drop(self):
-        taken = ()
-        for number in self.everything:
-            if (*taken, number) not in self.clashing:
-                taken = (*taken, number)
-        return self.left(taken)
-
-    def is_answer(self, numbers, lock):
-        return lock in self.answers(numbers)
-
-    def is_refused(self, numbers, refusal):
-        wish, begun = plain_cut(*self.given[1:], numbers)
-        return plainly_judged(self.given[0], wish, refusal, begun)
-
-    def is_core_paper(self, paper):
-        numbers, refusal, locks = paper
-        rests = [tuple([own for own in numbers if own != number]) for number in numbers]
-        return (self.is_refused(numbers, refusal) and len(locks) == len(numbers)
-                and all(self.is_answer(rest, lock) for rest, lock in zip(rests, locks)))
-
-    def is_drop_paper(self, paper):
-        numbers, lock, refusals = paper
-        rests = [self.left([own for own in numbers if own != number]) for number in numbers]
-        return (self.is_answer(self.left(numbers), lock) and len(refusals) == len(numbers)
-                and all(self.is_refused(rest, own) for rest, own in zip(rests, refusals)))
 
 
 def rows(rng, times, most=150):
@@ -110,7 +41,7 @@ class Clashing(Case):
     def test_beside_all_sets_and_all_locks(self):
         rng, many, both = random.Random(1701), 0, 0
         for registry, wish, begun in rows(rng, 70):
-            plain = Plain(registry, wish, begun)
+            plain = PlainAsks(registry, wish, begun)
             for numbers in subsets(plain.everything):
                 self.assertIs(clashing(registry, wish, begun, numbers), numbers in plain.clashing, (wish, begun))
                 self.same(cut(wish, begun, numbers), plain_cut(wish, begun, numbers))
@@ -216,7 +147,7 @@ class Papers(Case):
     def test_all_papers_beside_plain_ones(self):
         rng, seen = random.Random(1704), [0, 0, 0]
         for registry, wish, begun in rows(rng, 40, 80):
-            plain, given = Plain(registry, wish, begun), (registry, wish, begun)
+            plain, given = PlainAsks(registry, wish, begun), (registry, wish, begun)
             papers = []
             for numbers in subsets(plain.everything):
                 for k, (write, is_one) in enumerate(((core_paper, plain.is_core), (drop_paper, plain.is_drop))):

@@ -7,22 +7,22 @@ import unittest
 from newestfit.errors import NoPaper, TooMany
 from newestfit.items import lots
 from newestfit.judge import is_claim, is_paper, is_so, not_so, paper, shows, words_so
-from newestfit.least import blame, clashing, core, core_paper, cores, drop, drop_paper, drops, fewest_dropped, is_core_paper
-from newestfit.least import is_drop_paper, least_meets, loosened
+from newestfit.least import blame, clashing, core, core_paper, cores, drop, drop_paper, drops, fewest_dropped
+from newestfit.least import is_core_paper, is_drop_paper, least_meets, loosened
 from newestfit.locks import fits
 from newestfit.plans import all_ahead, arrows, goes_with, is_plan, is_tie, knots, one_by_one, plan, tie, why_arrow
 from newestfit.platforms import few_locks, for_all, idle_words, kinds, lock_table, needs_counting, one_lock, one_refusal
 from newestfit.platforms import parting_platforms, refused_words, words_by, words_told
-from newestfit.reasons import after_pull, asks, asks_to_drop, falls_with, harm, hurt, in_each_way, is_ask_drop, must_refusal
-from newestfit.reasons import must_releases, way_to, ways_apart
+from newestfit.reasons import after_pull, asks, asks_to_drop, falls_with, harm, hurt, in_each_way, is_ask_drop
+from newestfit.reasons import must_refusal, must_releases, way_to, ways_apart
 from newestfit.shell import first_shell, session, worked
-from newestfit.store import bad_cut, blank_disk, clean_steps, cut_disks, end_disks, install_steps, is_safe, is_writing, mended
-from newestfit.store import needless_steps, read_locks, room_changes, undo_steps, written
-from newestfit.texts import lock_changed, lock_changes, lock_text, lock_turned, read_lock, read_need, read_registry, read_wish
-from newestfit.texts import registry_text, wish_text
+from newestfit.store import bad_cut, blank_disk, clean_steps, cut_disks, end_disks, install_steps, is_safe, is_writing
+from newestfit.store import mended, needless_steps, read_locks, room_changes, undo_steps, written
+from newestfit.texts import lock_changed, lock_changes, lock_text, lock_turned, read_lock, read_need, read_registry
+from newestfit.texts import read_wish, registry_text, wish_text
+from large import SIX, colours, full_registry
 from models import WIDE, wide_registry
 from support import Case, EVERY, NAMES, ONE, TWO, YES, as_lists
-from test_times import SIX, colours, full_registry
 
 BARE = ((), (), ())
 THREE = ((1, 0, 0, 0), (2, 0, 0, 0), (3, 0, 0, 0))

@@ -5,72 +5,16 @@ import random
 import unittest
 
 from newestfit.errors import NoName, NoPaper, Unfit
-from newestfit.plans import all_ahead, arrows, changed, goes_with, is_plan, is_tie, keeps_ahead, knots, lock_then, one_by_one
-from newestfit.plans import plan, tie, why_arrow
-from models import WIDER, fitting_locks, made_lock, plain_leaf, plain_leaves, tame_cases
+from newestfit.plans import all_ahead, arrows, changed, goes_with, is_plan, is_tie, keeps_ahead, knots, lock_then
+from newestfit.plans import one_by_one, plan, tie, why_arrow
+from models import WIDER, fitting_locks, made_lock, tame_cases
+from plain import HIGH, LOW, MILD, NEWER, OLDER, STALL, led_to, plain_arrows, plain_lock, plainly_changed, woven_case
 from support import Case, EVERY, NO, ODD_THINGS, ONE, TWO, YES, as_lists, bent, has_lists, plainly_fits, small_cases
 from support import subsets
 
-LOW, HIGH = ((ONE, TWO),), ((TWO, None),)
-STALL = (("hub", ONE, (("pen", EVERY, (), YES),), (), (), False), ("hub", TWO, (("pen", HIGH, (), YES),), (), (), False),
-         ("ink", ONE, (), (), (), False), ("ink", TWO, (), (), (), False),
-         ("pen", ONE, (("ink", LOW, (), YES),), (), (), False), ("pen", TWO, (("ink", HIGH, (), YES),), (), (), False))
-MILD = ((("hub", EVERY, (), YES),), (), ())
-OLDER, NEWER = [tuple([((name, ""), own) for name in ("hub", "ink", "pen")]) for own in (ONE, TWO)]
 GIVEN = {"registry": STALL, "wish": MILD, "near": OLDER, "far": NEWER}
 OF_BOTH = (arrows, all_ahead, knots, plan, one_by_one, tie)
 HUB_LEAF = ("need", ("hub", ""), TWO, 0, "")
-
-
-def plainly_changed(near, far):
-    return tuple(sorted({item[0] for item, _ in set(near) ^ set(far)}))
-
-
-def plain_lock(near, far, names):
-    return tuple(sorted([pair for pair in far if pair[0][0] in names] + [pair for pair in near if pair[0][0] not in names]))
-
-
-def plain_arrows(registry, wish, near, far):
-    """A dict of the LEAVES, ascending, by the ARROWS that they make."""
-    names, found = plainly_changed(near, far), {}
-    for leaf in sorted([own for own in plain_leaves(registry, wish) if own[0] in ("need", "clash")]):
-        tests = plain_leaf(registry, wish, leaf)
-        for x, y in itertools.permutations(names, 2):
-            if {item[0] for item, _ in tests} == {x, y}:
-                mixed = {**{item: state for item, state in near if item[0] == y},
-                         **{item: state for item, state in far if item[0] == x}}
-                if all(test(mixed.get(item)) for item, test in tests):
-                    found.setdefault((x, y), []).append(leaf)
-    return found
-
-
-def led_to(found, name):
-    """All NAMES to which ARROWS lead from name, over others or not."""
-    row = {name}
-    while True:
-        more = row | {y for x, y in found if x in row}
-        if more == row:
-            return row
-        row = more
-
-
-def woven_case(rng, many):
-    """A REGISTRY of two VERSIONS of each NAME, the older ones tied to older, the newer ones to newer ones."""
-    names, rows = ("ape", "bee", "cat", "dog", "elk", "fox")[:many], []
-    for name in names:
-        for version, span in ((ONE, LOW), (TWO, HIGH)):
-            others = rng.sample(names, min(many, rng.choice((0, 0, 1, 2))))
-            needs = tuple([(other, rng.choice((span, span, EVERY)), rng.choice(((), (), ("p",))),
-                            rng.choice((YES, YES, ("on", "w")))) for other in others])
-            clashing = [other for other in names if other != name and rng.random() < 0.15]
-            clashes = tuple([(other, HIGH if version == ONE else LOW) for other in clashing])
-            inner = tuple([(other, span, (), YES) for other in rng.sample(names, rng.choice((0, 0, 1)))])
-            rows.append((name, version, needs, (("p", inner),), clashes, False))
-    wish = (tuple([(name, EVERY, (), YES) for name in names[:2]]), rng.choice(((), ("w",))), ())
-    near, far = [tuple([((name, part), own) for name in names for part in ("", "p")]) for own in (ONE, TWO)]
-    drop = rng.sample(names, rng.choice((0, 0, 1)))
-    thin = tuple([pair for pair in near if pair[0][0] not in drop])
-    return tuple(rows), wish, thin if plainly_fits(tuple(rows), wish, thin) else near, far
 
 
 def rows(rng, times):

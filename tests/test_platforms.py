@@ -5,11 +5,13 @@ import random
 import unittest
 
 from newestfit.errors import NoPaper, TooMany
-from newestfit.platforms import are_locks_for, few_locks, fitting_words, for_all, idle_words, is_family, kinds, lock_table
-from newestfit.platforms import needs_counting, one_lock, one_refusal, parting_platforms, refused_words, words_by, words_told
+from newestfit.platforms import are_locks_for, few_locks, fitting_words, for_all, idle_words, is_family, kinds
+from newestfit.platforms import lock_table, needs_counting, one_lock, one_refusal, parting_platforms, refused_words
+from newestfit.platforms import words_by, words_told
 from models import OVER, WIDE, WIDER, fitting_locks, made_lock, plainly_judged
-from support import Case, EVERY, NO, ODD_THINGS, ONE, TWO, YARD, YES, as_lists, bent, has_lists, made_mark, mark_holds, open_locks
-from support import plain_items, plain_states, plainly_fits, subsets
+from plain import by
+from support import Case, EVERY, NO, ODD_THINGS, ONE, TWO, YARD, YES, as_lists, bent, has_lists, made_mark, mark_holds
+from support import open_locks, plain_items, plain_states, plainly_fits, subsets
 
 LOW, HIGH, WIN = (((0, 0, 0, -9), (2, 0, 0, -9)),), (((2, 0, 0, -9), None),), ("on", "win")
 # The examples' house: its app needs gui and an old core on win, tty and a new core elsewhere.
@@ -30,10 +32,6 @@ def needs_of_all(registry, wish):
         for part, own in (("", needs), *parts):
             rows.extend([((name, version, part, k), need) for k, need in enumerate(own)])
     return rows
-
-
-def by(wish, words):
-    return (wish[0], words, wish[2])
 
 
 def marked_cases(rng, times, most=200, names=("lin", "mac", "win")):

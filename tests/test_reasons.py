@@ -5,11 +5,11 @@ import random
 import unittest
 
 from newestfit.errors import NoName, NoPaper, NoRelease, TooMany, Unfit
-from newestfit.reasons import after_pull, are_ways_apart, asks, asks_to_drop, falls_with, harm, hurt, in_each_way, is_ask_drop
-from newestfit.reasons import is_way, must_refusal, must_releases, way_to, ways_apart, who_asks
+from newestfit.reasons import after_pull, are_ways_apart, asks, asks_to_drop, falls_with, harm, hurt, in_each_way
+from newestfit.reasons import is_ask_drop, is_way, must_refusal, must_releases, way_to, ways_apart, who_asks
 from models import OVER, WIDE, WIDER, fitting_locks, plainly_judged, tame_case, tame_cases
-from support import Case, EVERY, NO, ODD_THINGS, ONE, TWO, YES, as_lists, bent, has_lists, mark_holds, plain_needs
-from support import small_cases, subsets
+from plain import plain_asks
+from support import Case, EVERY, NO, ODD_THINGS, ONE, TWO, YES, as_lists, bent, has_lists, small_cases
 
 LOW, HIGH, WIN = (((0, 0, 0, -9), (2, 0, 0, -9)),), (((2, 0, 0, -9), None),), ("on", "win")
 APP = ("app", ONE, (("gui", EVERY, (), WIN), ("tty", EVERY, (), ("not", WIN)), ("core", EVERY, (), YES)), (), (), False)
@@ -23,19 +23,6 @@ GIVEN = {"registry": HOUSE, "wish": WISHED, "lock": LOCK}
 OF_ITEM = (who_asks, way_to, ways_apart, asks_to_drop, in_each_way, falls_with)
 OF_THING = (is_way, are_ways_apart, is_ask_drop)
 OF_PULL = (after_pull, harm, must_refusal)
-
-
-def plain_asks(registry, wish, lock):
-    rows, there = set(), dict(lock)
-    needs = [((), k, need) for k, need in enumerate(wish[0])]
-    for item in there:
-        needs.extend([(item, k, need) for k, need in enumerate(plain_needs(registry, item, there[item]))])
-        if item[1]:
-            rows.add((item, -1, (item[0], "")))
-    for asker, k, need in needs:
-        if mark_holds(need[3], wish[1]):
-            rows.update([(asker, k, (need[0], part)) for part in ("", *need[2])])
-    return rows
 
 
 def all_ways(found, item):

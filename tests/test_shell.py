@@ -10,12 +10,9 @@ from newestfit.shell import first_shell, house_after, is_request, requests, sess
 from newestfit.store import blank_disk, cut_behind, earlier_lock, install_steps, mended, read_disk, written
 from newestfit.texts import lock_text, need_text, read_need, registry_text, wish_text
 from models import OVER, fitting_locks, plain_lean
+from plain import PlainAsks, item_of, item_word, plain_asks, plainly_held, version_of
 from stores import TORN, meaning
 from support import Case, EVERY, NO, ODD_THINGS, ONE, TWO, YES, as_lists, half_lists, has_lists, plainly_fits, subsets
-from test_least import Plain
-from test_reasons import plain_asks
-from test_texts import item_of, item_word, version_of
-from test_updates import plainly_held
 
 SHELF = (("app", ONE, (("lib", EVERY, (), YES),), (), (), False), ("lib", ONE, (), (), (), False), ("lib", TWO, (), (), (), False))
 NONE = ((), (), ())
@@ -78,7 +75,7 @@ class Play:
             best = fitting_locks(registry, wish)[:1]
             return "best" if [lock] == best else "fits" if plainly_fits(registry, wish, lock) else "broken"
         if word == "blame":
-            found = [own for own in subsets(range(len(wish[0]))) if own in Plain(registry, wish, ()).clashing]
+            found = [own for own in subsets(range(len(wish[0]))) if own in PlainAsks(registry, wish, ()).clashing]
             if not found:
                 raise Refused("NoPaper")
             return " ".join(map(str, min(found, key=lambda own: (len(own), own))))

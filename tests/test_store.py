@@ -5,11 +5,11 @@ import random
 import unittest
 
 from newestfit.errors import NoPaper, TooMany, Unfit
-from newestfit.store import bad_cut, blank_disk, clean_steps, cut_behind, cut_disks, earlier_lock, end_disks, install_steps
-from newestfit.store import is_bad_cut, is_disk, is_safe, is_writing, mend_steps, mended, needless_steps, read_disk
-from newestfit.store import read_locks, room_changes, undo_steps, written
-from stores import A, B, HEAD, SYNC, TORN, ahead_of, bad_ones, cells_of, disk_of, made_lock, made_writing, meaning, plain_cuts
-from stores import tame_disk, wild_disk
+from newestfit.store import bad_cut, blank_disk, clean_steps, cut_behind, cut_disks, earlier_lock, end_disks
+from newestfit.store import install_steps, is_bad_cut, is_disk, is_safe, is_writing, mend_steps, mended, needless_steps
+from newestfit.store import read_disk, read_locks, room_changes, undo_steps, written
+from stores import A, B, HEAD, SYNC, TORN, ahead_of, bad_ones, cells_of, disk_of, made_lock, made_writing, meaning
+from stores import plain_cuts, tame_disk, wild_disk
 from support import Case, ODD_THINGS, ONE, TWO, as_lists, bent, has_lists
 
 OF_DISK = (read_disk, earlier_lock, mend_steps, mended, undo_steps, clean_steps)

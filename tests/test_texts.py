@@ -7,11 +7,12 @@ import unittest
 from newestfit.errors import BadLine, BadText
 from newestfit.marks import is_mark_text, mark_text, read_mark
 from newestfit.rangetexts import is_range_text, range_text, read_range
-from newestfit.texts import lock_changed, lock_changes, lock_text, lock_turned, need_text, read_lock, read_need, read_registry
-from newestfit.texts import read_wish, registry_text, wish_text
+from newestfit.texts import lock_changed, lock_changes, lock_text, lock_turned, need_text, read_lock, read_need
+from newestfit.texts import read_registry, read_wish, registry_text, wish_text
 from models import made_lock, tame_cases
-from support import Case, EARLY, EVERY, NAMES, NO, ONE, PARTS, TWO, YES, as_lists, has_lists, made_mark, made_range, made_version
-from support import plain_text, small_cases
+from plain import NAME, item_of, item_word, version_of
+from support import Case, EARLY, EVERY, NAMES, NO, ONE, PARTS, TWO, YES, as_lists, has_lists, made_mark, made_range
+from support import made_version, plain_text, small_cases
 
 QUICK = (("fast", (("simd", EVERY, (), ("on", "lanes")),)),)
 SHOP = (("json", ONE, (), (), (), False), ("json", TWO, (), QUICK, (), False), ("simd", ONE, (), (), (), False),
@@ -19,7 +20,6 @@ SHOP = (("json", ONE, (), (), (), False), ("json", TWO, (), QUICK, (), False), (
         ("web", TWO, (("json", ((TWO, None),), ("fast",), YES),), (), (), False))
 FULL = ((("json", ""), TWO), (("json", "fast"), TWO), (("simd", ""), ONE), (("web", ""), TWO))
 STALE = ((("json", ""), ONE), (("simd", ""), ONE), (("web", ""), ONE))
-NAME, VERSION = re.compile("[a-z]{1,12}"), re.compile(r"(0|[1-9][0-9]*)(\.(0|[1-9][0-9]*)){2}(-[1-9])?")
 ODD_LINES = ("", " ", "  ", "release", "release a", "release a 1.0.0 ", "release A 1.0.0", "release a 1.0", "wish", "lock", " pulled",
              " pulled ", " part", " part p", " part p q", "  need a *", " need", " need a", " need a *", " need a * if ()",
              " need a * with", " need a * with p,p", " need a * if x with p", " clash", " clash a *", " clash a * b", " words",
@@ -47,10 +47,6 @@ def made_registry(rng):
 def made_wish(rng):
     words, early = [tuple(sorted(rng.sample(NAMES, rng.choice((0, 1, 2))))) for _ in range(2)]
     return (tuple([made_need(rng) for _ in range(rng.randint(0, 3))]), words, early)
-
-
-def item_word(item):
-    return "/".join([own for own in item if own])
 
 
 def plain_need(need):
@@ -85,19 +81,6 @@ def wish_lines(wish):
 
 def lock_lines(lock):
     return ["lock", *[f" {item_word(item)} {plain_text(version)}" for item, version in lock]]
-
-
-def version_of(word):
-    if not VERSION.fullmatch(word):
-        return None
-    whole, _, early = word.partition("-")
-    return (*map(int, whole.split(".")), -int(early or 0))
-
-
-def item_of(word):
-    parts = word.split("/")
-    fine = len(parts) < 3 and all(NAME.fullmatch(part) for part in parts)
-    return (parts[0], parts[1] if len(parts) == 2 else "") if fine else None
 
 
 def names_of(word):

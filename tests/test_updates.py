@@ -8,12 +8,13 @@ from newestfit.items import lots
 from newestfit.locks import is_better
 from newestfit.registry import publish
 from newestfit.solve import best_lock, can_fit
-from newestfit.updates import best_behind, fate, held, is_lost_paper, keeps_more, kept_states, lost, lost_paper, refreshed
-from newestfit.updates import stays, unlike_states, updated
-from models import OVER, STRANGE, TAME_VERSIONS, WIDE, WIDER, fitting_locks, has_begun, made_lock, made_open_lock, plain_lean
-from models import plainly_judged, rank_key, tame_case, tame_cases
-from support import Case, EARLY, EVERY, FROM_TWO, NAMES, ODD_THINGS, ONE, TWO, YES, as_lists, bent, has_lists, open_locks
-from support import plain_items, plain_order, plain_states, small_cases
+from newestfit.updates import best_behind, fate, held, is_lost_paper, keeps_more, kept_states, lost, lost_paper
+from newestfit.updates import refreshed, stays, unlike_states, updated
+from models import OVER, STRANGE, TAME_VERSIONS, WIDE, WIDER, fitting_locks, has_begun, made_lock, made_open_lock
+from models import plain_lean, plainly_judged, rank_key, tame_case, tame_cases
+from plain import base_of, beginning_of, plain_kept, plainly_held
+from support import Case, EARLY, EVERY, FROM_TWO, NAMES, ODD_THINGS, ONE, TWO, YES, as_lists, bent, has_lists
+from support import open_locks, plain_items, small_cases
 
 APP, LIB = ("app", ""), ("lib", "")
 LAST = (1, 1, 0, 0)
@@ -24,32 +25,6 @@ WISH, LATE, BARE = ((("app", ((ONE, None),), (), YES),), (), ()), ((("app", FROM
 HOPELESS = ((("app", (), (), YES),), (), ())
 OLD, NEW = ((APP, ONE), (LIB, ONE)), ((APP, TWO), (LIB, TWO))
 OF_OLD = (held, updated, lost)
-
-
-def base_of(registry, wish, old):
-    needed = plain_lean(registry, wish, old)[0]
-    return {item: version for item, version in old if item in needed}
-
-
-def plain_kept(registry, wish, old, names=()):
-    """What tells the STATES of an ITEM from the most kept on; those of these NAMES from the best on."""
-    base, there = base_of(registry, wish, old), dict(old)
-
-    def row_of(registry, wish, item):
-        own = plain_states(registry, wish, item)
-        if there.get(item) not in own[1:] or item[0] in names:
-            return own
-        mine = there[item]
-        first = (mine, None) if item in base else (None, mine)
-        return (*first, *[state for state in own[1:] if state != mine])
-
-    return row_of
-
-
-def plainly_held(registry, wish, old, names=()):
-    """Of all LOCKS that fit the one that keeps most; None if nothing fits."""
-    key = rank_key(registry, wish, plain_kept(registry, wish, old, names))
-    return min(fitting_locks(registry, wish), key=key, default=None)
 
 
 def made_lean(registry, wish, lock):
@@ -66,12 +41,6 @@ def rows(rng, times, most=300):
         kinds.extend(fitting_locks(registry, tame_case(rng)[1])[-2:])
         for old in kinds:
             yield registry, wish, tuple(old)
-
-
-def beginning_of(registry, wish, kept, base, item):
-    items = plain_order(registry, wish)[1]
-    told = {own: dict(kept).get(own) for own in items[:items.index(item)]}
-    return tuple(sorted({**told, item: base[item]}.items()))
 
 
 class Kept(Case):

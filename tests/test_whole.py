@@ -12,9 +12,9 @@ from newestfit.refusals import rows_of
 from newestfit.solve import refusal_of
 from newestfit.store import blank_disk, cut_behind, install_steps, written
 from newestfit.texts import lock_changes, lock_text, need_text, registry_text, wish_text
+from interface import FUNCTIONS
+from plain import MILD, NEWER, OLDER, STALL
 from support import Case, EVERY, NO, ODD_THINGS, ONE, TWO, YARD, YES, as_lists, bent, half_lists, has_lists, nested
-from test_interface import FUNCTIONS
-from test_plans import MILD, NEWER, OLDER, STALL
 
 PACKAGE = pathlib.Path(__file__).resolve().parent.parent / "newestfit"
 LOW, HIGH = ((ONE, TWO),), ((TWO, None),)
