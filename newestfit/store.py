@@ -182,7 +182,9 @@ def _words_by_places(disk, puts):
     found = {}
     for place, word in puts:
         words = found.setdefault(place, [_word_at(disk, place)])
-        words.extend([own for own in (TORN, word) if own not in words])
+        for own in (TORN, word):
+            if own not in words:
+                words.append(own)
     return found
 
 

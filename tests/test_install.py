@@ -137,6 +137,11 @@ class Steps(Case):
                   install_steps, disk=going, lock=lock[:1])
         self.says((put(HEAD, ()), SYNC), mend_steps, disk=(TORN, tuple(notes), (A, B)))
         self.says((put(HEAD, ()), SYNC, put(("note", 0), ()), SYNC), clean_steps, disk=(TORN, (TORN, ()), (A, B)))
+        # What a HEAD done tells is not laid into the ROOMS again.
+        changed = (("done", 1), (("note", 0, (), A),), (B,))
+        self.says((put(HEAD, ()), SYNC, put(("note", 0), ("note", 0, B, A)), SYNC, put(HEAD, ("go", 1)), SYNC, put(("room", 0), A), SYNC,
+                   put(HEAD, ("done", 1)), SYNC), install_steps, disk=changed, lock=lock[:1])
+        self.says((), mend_steps, disk=changed)
         # HEAD torn stays so till the NOTES are there.
         self.says((put(("note", 0), ("note", 0, A, ())), SYNC, put(HEAD, ("go", 1)), SYNC, put(("room", 0), ()), SYNC,
                    put(HEAD, ("done", 1)), SYNC), install_steps, disk=(TORN, tuple(notes), (A, ())), lock=())

@@ -306,7 +306,8 @@ class Deeds(Case):
                 (HOUSE, "wished", "wish\n need app *"), (EMPTY, "wished", "wish"), (EMPTY, "disk", "lock"), (HOUSE, "why lib", "app 0"),
                 (HOUSE, "why app", "wish 0"), (own, "why app", "wish 0, app 0, app/x -1"), (own, "why app/x", "app 0"),
                 ((SHELF, NONE, LOCK[1:], blank_disk(1, 1)), "why lib", "-"),
-                ((SHELF, (WISH[0] + (("zoo", EVERY, (), YES),), (), ()), None, blank_disk(1, 1)), "blame", "1")):
+                ((SHELF, (WISH[0] + (("zoo", EVERY, (), YES),), (), ()), None, blank_disk(1, 1)), "blame", "1"),
+                ((SHELF, (WISH[0] + NEEDS[1:2] + (("lib", ((ONE, TWO),), (), YES),), (), ()), None, blank_disk(1, 1)), "blame", "1 2")):
             self.says(expected, told, house=house, request=request)
             self.same(worked((house, (), (("lock", house),)), request), ((house, (), (("lock", house),)), expected))
         for request in ("show", "why lib"):

@@ -278,6 +278,21 @@ class Read(Case):
         self.assertGreater(fine, 100)
         self.assertGreater(min(bad.get(k, 0) for k in (1, 2, 3, 4, 5)), 50, bad)
 
+    def test_each_beginning_sign_by_sign(self):
+        rng = random.Random(2307)
+        for _ in range(12):
+            texts = ((registry_text(made_registry(rng)), *KINDS[0]), (wish_text(made_wish(rng)), *KINDS[1]), (lock_text(FULL), *KINDS[2]))
+            for text, read, plainly in texts:
+                for k in range(len(text) + 1):
+                    lines = text[:k].split("\n") if k else []
+                    if plainly(lines) is not None:
+                        self.same(read(text[:k]), plainly(lines))
+                        continue
+                    # All lines but the last one stand there whole.
+                    with self.assertRaises(BadLine) as caught:
+                        read(text[:k])
+                    self.assertEqual(caught.exception.number, max(1, len(lines)))
+
     def test_registries_say(self):
         for number, text in ((1, "\n"), (1, " "), (1, "release"), (1, "release a 1.0.0 pulled"), (1, " need a *"), (1, "wish"),
                              (2, "release a 1.0.0\n"), (1, "\nrelease a 1.0.0"), (2, "release a 1.0.0\n\n pulled"),
